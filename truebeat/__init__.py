@@ -1,0 +1,1 @@
+"""A processor from gates that is its plain machine, beat by beat."""

@@ -1,0 +1,1 @@
+"""Checks of single values, and words of bits."""

@@ -1,0 +1,1 @@
+"""Nets of gates, and walks through them."""

@@ -1,0 +1,1 @@
+"""Adders, shifts, products and long parts."""

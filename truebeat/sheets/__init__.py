@@ -1,0 +1,1 @@
+"""Sheets of lines of words, and the nets laid from them."""
