@@ -306,7 +306,8 @@ class RefusedPlansTest(unittest.TestCase):
     def test_plans(self):
         plan = plan_of("row", 3)
         sizes = numbers_but(1, 32)
-        plans = odd_but() + [plan_of("row", 2), plan_of("row", 4), (plan[0], (0, 3, 5)), (plan[0], (0, 3, True)), plan[0]]
+        plans = odd_but() + [plan_of("row", 2), plan_of("row", 4), (plan[0], (0, 3, 5)), (plan[0], (0, 3, True)),
+                             plan[0]]
         ahead = [(0, InvalidNumber, sizes), (1, InvalidPlan, plans)]
         for function in (plan_depth, plan_paper, merged, adder_net):
             check_refused(self, function, (3, plan), ahead)

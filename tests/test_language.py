@@ -91,12 +91,14 @@ def tops(tree):
 
 
 def iterated_names(node):
-    """The plain names over which a loop goes, directly or through enumerate, zip and reversed."""
+    """The plain names over which a loop goes, directly or through enumerate, zip, reversed and views."""
     if isinstance(node, ast.Name):
         return [node.id]
-    if isinstance(node, ast.Call) and isinstance(node.func, ast.Name) and node.func.id in ("enumerate", "zip", "reversed"):
+    if not isinstance(node, ast.Call):
+        return []
+    if isinstance(node.func, ast.Name) and node.func.id in ("enumerate", "zip", "reversed"):
         return [name for inner in node.args for name in iterated_names(inner)]
-    if isinstance(node, ast.Call) and isinstance(node.func, ast.Attribute) and node.func.attr in ("items", "keys", "values"):
+    if isinstance(node.func, ast.Attribute) and node.func.attr in ("items", "keys", "values"):
         return iterated_names(node.func.value)
     return []
 
@@ -105,7 +107,8 @@ def changed_names(nodes):
     """The plain names whose values the nodes change in place."""
     for outer in nodes:
         for node in ast.walk(outer):
-            if isinstance(node, ast.Subscript) and not isinstance(node.ctx, ast.Load) and isinstance(node.value, ast.Name):
+            stored = isinstance(node, ast.Subscript) and not isinstance(node.ctx, ast.Load)
+            if stored and isinstance(node.value, ast.Name):
                 yield node.value.id
             if isinstance(node, ast.Call):
                 of_name = isinstance(node.func, ast.Attribute) and isinstance(node.func.value, ast.Name)

@@ -68,7 +68,8 @@ def some_asks(source, width, many):
     asks = []
     while len(asks) < many:
         words = [source.choice((0, 1, (1 << width) - 1, source.randrange(1 << width))) for _ in "xy"]
-        asks += source.choice(([("begin", source.choice(KINDS), *words)], [STOP], [None] * source.randint(1, 2 * width)))
+        begun = ("begin", source.choice(KINDS), *words)
+        asks += source.choice(([begun], [STOP], [None] * source.randint(1, 2 * width)))
     return tuple(asks[:many])
 
 

@@ -24,6 +24,7 @@ BAD_CELLS = (
     ("and", 0, 0, 0), ("and", 0, True), ("and", 0, 10 ** 70), ("nand", 0, 0), ("pick", 0, 0), ("pick", 0, 0, 0, 0),
     ("pick", 0, 0, 1), ("keep", "k", 0), ("keep", "k", 0, 0, 0), ("keep", "k", True, 0), ("keep", "k", False, 0),
     ("keep", "k", 2, 0), ("keep", "k", "0", 0), ("keep", "k", 0, 1), ("keep", "k", 0, None), ("keep", "K", 0, 0),
+    ("kept", "k", 0, 0),
     ("keep", None, 0, 0), (), None, "one", ["one"], 3, ((),), (("one",),), (0, "in"), ("IN", "a"), ([],), ({},),
 )
 

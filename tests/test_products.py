@@ -18,7 +18,8 @@ HEAPS = odd_but(((),)) + [(), (1, 0), ((1,), [1]), [(1,)], ((2,),), ((True,),), 
 DEEDS = [value for value in odd_but() if value != ()] + [
     (("three", 3),), (("two", -1),), (("two", True),), (("four", 0),), (("Two", 0),), (("two",),), (("two", 0, 0),),
     [("two", 0)], (["two", 0],), (("two", 0),) * 2001, ((2, 0),), ((("two",), 0),), (([], 0),), (("two", 0), None)]
-HEIGHTS = odd_but((0,), (0, 0, 0)) + [(), (65,), (-1,), (True,), (0,) * 33, [1], (1, None), ((1,),), (1, "2"), (10 ** 61,)]
+HEIGHTS = odd_but((0,), (0, 0, 0)) + [
+    (), (65,), (-1,), (True,), (0,) * 33, [1], (1, None), ((1,),), (1, "2"), (10 ** 61,)]
 
 
 def plain_worth(heap):
@@ -216,6 +217,16 @@ class ProductsTest(unittest.TestCase):
             for deeds in ((), low_deeds(heights, 1), low_deeds(heights, 2), some_deeds(source, heights, 9),
                           some_deeds(source, heights, 2000)):
                 self.check_net(size, deeds)
+
+    def test_nets_are_made_by_the_deeds(self):
+        # Where all deeds take two bits, no cell "pick" is wanted; further deeds would take three.
+        heights, deeds = [1, 2, 3, 4], []
+        for column in range(4):
+            while heights[column] > 1:
+                deeds.append(("two", column))
+                heights = heights_behind(heights, deeds[-1:])
+        self.assertNotIn("pick", [cell[0] for cell in product_net(4, tuple(deeds))[0]])
+        self.assertIn("pick", [cell[0] for cell in product_net(4, ())[0]])
 
     def test_nets_of_high_columns(self):
         # Deeds that carry nearly all bits into the last column, far above 64 of them.

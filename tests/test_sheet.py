@@ -32,16 +32,17 @@ BAD = (
     ("join", 0, None), ("join", (0, 1)), ("join",) + (0,) * 9, ("join",) + (2,) * 33, ("wide", 0), ("wide", 0, 3),
     ("wide", 0, 33), ("long", 0, 3), ("long", 0, "4"), ("long", 3, 4), ("not",), ("not", 3), ("not", 0, 0),
     ("not", True), ("and", 0), ("and", 0, 2), ("and", 0, 1, 1), ("or", 0, 3), ("xor", 0, -1), ("add", 0, 2),
-    ("less_by", 2, 0), ("less_by", 0), ("same", 0, 2), ("same", 0), ("below", 0, 1, 2), ("under", 0, None),
-    ("any",), ("any", 0, 1), ("all", 3), ("pick", 0, 0, 1), ("pick", 2, 0, 2), ("pick", 2, 0), ("pick", 2, 0, 3),
-    ("pick", True, 0, 1), ("choose", 0, ()), ("choose", 0, (1, 2)), ("choose", 0, (0, 3)), ("choose", 0, 1),
-    ("choose", 3, (0,)), ("choose", 0, [0, 1]), ("choose", 0, (2,) * 65), ("choose", 0), ("choose", 0, (0,), 1),
-    ("choose", 0, (False, 0)), ("left", 0), ("left", 0, 3), ("left", 0, 1, 1), ("right", 3, 0), ("right", None, 0),
-    ("times", 0, 2), ("part", 0, 2), ("rest", 0), ("rest", 0, 3), ("keep", "k", 4, 0), ("keep", "k", 4, 16, 0),
-    ("keep", "k", 4, -1, 0), ("keep", "k", 4, False, 0), ("keep", "k", 4, 0, 2), ("keep", "k", 4, 0, 4),
-    ("keep", "k", 4, 0, None), ("keep", "k", 4, 0, True), ("keep", "k", 0, 0, 0), ("keep", "x", 4, 0, 0),
-    ("keep", "k.0", 4, 0, 0), ("keep", "k", 4, 0, 0, 0), ("keep", "k", True, 0, 2), (), None, "not", ("nor", 0, 1),
-    ["not", 0], (["not"], 0), (0,), ((),), 3, ("NOT", 0), ({},), (None, 0),
+    ("less_by", 2, 0), ("less_by", 0), ("same", 0, 2), ("same", 0), ("below", 0, 1, 2), ("under", 0, None), ("any",),
+    ("any", 0, 1), ("all", 3), ("pick", 0, 0, 1), ("pick", 2, 0, 2), ("pick", 2, 0), ("pick", 2, 0, 3),
+    ("pick", True, 0, 1), ("pick", 3, 0, 1), ("pick", -1, 0, 1), ("pick", None, 0, 1), ("choose", 0, ()),
+    ("choose", 0, (1, 2)), ("choose", 0, (0, 3)), ("choose", 0, 1), ("choose", 3, (0,)), ("choose", 0, [0, 1]),
+    ("choose", 0, (2,) * 65), ("choose", 0), ("choose", 0, (0,), 1), ("choose", 0, (False, 0)), ("left", 0),
+    ("left", 0, 3), ("left", 0, 1, 1), ("right", 3, 0), ("right", None, 0), ("times", 0, 2), ("part", 0, 2),
+    ("rest", 0), ("rest", 0, 3), ("keep", "k", 4, 0), ("keep", "k", 4, 16, 0), ("keep", "k", 4, -1, 0),
+    ("keep", "k", 4, False, 0), ("keep", "k", 4, 0, 2), ("keep", "k", 4, 0, 4), ("keep", "k", 4, 0, None),
+    ("keep", "k", 4, 0, True), ("keep", "k", 0, 0, 0), ("keep", "x", 4, 0, 0), ("keep", "k.0", 4, 0, 0),
+    ("keep", "k", 4, 0, 0, 0), ("keep", "k", True, 0, 2), (), None, "not", ("nor", 0, 1), ["not", 0], (["not"], 0),
+    (0,), ((),), 3, ("NOT", 0), ({},), (None, 0),
 )
 SHEETS = odd_but() + [COUNT[0], (COUNT[0], ()) + ((),), (COUNT[0], None), ((), ()), (COUNT[0], (("now", 4),))]
 
@@ -90,6 +91,7 @@ class SheetsTest(unittest.TestCase):
         self.assertEqual(weight_of(((*ahead[:2], ("rest", 0, 0), ("times", 0, 1), ("part", 0, 0)), ())), 140)
 
     def test_bounds(self):
+        self.assertTrue(is_sheet(((("told", 1, 0),), ())))
         self.assertTrue(is_sheet(((("in", "x", 4),) + (("cut", 0, 0, 4),) * 999, ())))
         self.assertFalse(is_sheet(((("in", "x", 4),) + (("cut", 0, 0, 4),) * 1000, ())))
         for kind in (lambda n: ("in", f"x{n}", 32), lambda n: ("keep", f"x{n}", 32, None, n)):
@@ -143,7 +145,8 @@ class SheetBeatsTest(unittest.TestCase):
         sheet = (tuple(lines), ())
         for x in range(16):
             for y in range(16):
-                self.assertEqual(line_words(sheet, {}, {"x": x, "y": y}), tuple(plain_words(lines, {}, {"x": x, "y": y})))
+                given = {"x": x, "y": y}
+                self.assertEqual(line_words(sheet, {}, given), tuple(plain_words(lines, {}, given)))
         self.assertEqual(line_words(sheet, {}, {"x": 11, "y": 0})[5:7], (15, 11))
         self.assertEqual(line_words(sheet, {}, {"x": 8, "y": 7})[8:], (0, 1))
 
@@ -185,7 +188,8 @@ class SheetBeatsTest(unittest.TestCase):
 def some_word(source, width):
     """A word that is often at an edge."""
     size = 1 << width
-    return source.choice((0, size - 1, size >> 1, (size >> 1) - 1, source.randrange(size), source.randrange(min(6, size))))
+    edges = (0, size - 1, size >> 1, (size >> 1) - 1)
+    return source.choice((*edges, source.randrange(size), source.randrange(min(6, size))))
 
 
 if __name__ == "__main__":

@@ -99,7 +99,8 @@ class ShiftsTest(unittest.TestCase):
         for side in SIDES:
             self.assertIsNone(rounds_paper(1, side, 1, ((0, 5),)))
             self.assertIs(is_rounds_paper(1, side, 1, (), (1, 1)), True)
-            self.assertIs(is_rounds_paper(32, side, 6, plain_rounds(5), rounds_paper(32, side, 6, plain_rounds(5))), True)
+            few = plain_rounds(5)
+            self.assertIs(is_rounds_paper(32, side, 6, few, rounds_paper(32, side, 6, few)), True)
             self.assertIsNone(rounds_paper(32, side, 6, plain_rounds(5) + ((5, 64),)))
             wrong = plain_rounds(4) + ((4, 31),)
             self.assertIs(is_rounds_paper(32, side, 5, wrong, rounds_paper(32, side, 5, wrong)), True)

@@ -100,7 +100,6 @@ def is_below(width, one, other):
 
 def is_under(width, one, other):
     """Whether the signed number of the first word is less."""
-    check_two(width, one, other)
     return signed(width, one) < signed(width, other)
 
 

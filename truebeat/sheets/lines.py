@@ -4,7 +4,7 @@ Each function of the table WIDTHS tells the width of a line, by the widths of th
 0 says that the line is none.
 """
 
-from truebeat.base.checks import is_between, is_index, is_integer, is_name, is_tuple_of, is_word_of
+from truebeat.base.checks import is_between, is_index, is_name, is_tuple_of, is_word_of
 
 MOST_BITS = 32
 MOST_CHOSEN = 64
@@ -94,7 +94,7 @@ def width_of_keep(line, widths):
     if len(line) != 5 or not is_port(line[1]) or not is_width(line[2]):
         return 0
     # The line that feeds it may stand behind it, so its width is asked when all lines are known.
-    return line[2] if (line[3] is None or is_word_of(line[2], line[3])) and is_integer(line[4]) else 0
+    return line[2] if line[3] is None or is_word_of(line[2], line[3]) else 0
 
 
 WIDTHS = {
