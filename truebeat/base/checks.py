@@ -60,6 +60,15 @@ def are_words(value, widths):
     return all([name in value and is_word_of(widths[name], value[name]) for name in widths])
 
 
-def ascending(table):
-    """A dict of its own with the same items, its keys ascending."""
-    return {key: table[key] for key in sorted(table)}
+def plainly_made(value):
+    """A good value of its own, made of Python's own types, the keys of its dicts ascending.
+
+    What is passed may be made of types derived from these; what is returned may not.
+    """
+    if isinstance(value, tuple):
+        return tuple([plainly_made(member) for member in value])
+    if isinstance(value, dict):
+        return {plainly_made(key): plainly_made(value[key]) for key in sorted(value)}
+    if isinstance(value, str):
+        return value[:]
+    return value if value is None or isinstance(value, bool) else int(value)

@@ -72,7 +72,7 @@ def carries(width, one, other, *, first=0):
     """The carries into each bit of a sum, and behind the top one."""
     check_two(width, one, other)
     check_number(first, 0, 1)
-    row = [first]
+    row = [int(first)]
     for at in range(width):
         row.append(((one >> at & 1) + (other >> at & 1) + row[at]) // 2)
     return tuple(row)

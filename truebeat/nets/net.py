@@ -2,7 +2,7 @@
 
 from heapq import heappop, heappush
 
-from truebeat.base.checks import are_unlike, is_bit, is_index, is_name, is_pair, is_tuple_of
+from truebeat.base.checks import are_unlike, is_bit, is_index, is_name, is_pair, is_tuple_of, plainly_made
 from truebeat.errors import InvalidNet, Refused, TooMany
 
 MAX_CELLS = 6000
@@ -171,7 +171,7 @@ def least_ring(cells):
         return None
     if len(cells) > MAX_LOOSE:
         raise TooMany(MAX_LOOSE)
-    return ring_found(cells)
+    return plainly_made(ring_found(cells))
 
 
 def is_ring(cells, value):
@@ -200,19 +200,19 @@ def arranged(cells, outputs):
         raise Refused(("ring", least_ring(cells)))
     places = {index: place for place, index in enumerate(order)}
     moved = tuple([led_along(cells[index], places) for index in order])
-    return moved, tuple([(name, places[index]) for name, index in outputs])
+    return plainly_made((moved, tuple([(name, places[index]) for name, index in outputs])))
 
 
 def inputs_of(net):
     """The names of all inputs, in the sequence of the cells."""
     check_net(net)
-    return tuple(names_in(net[0], "in"))
+    return plainly_made(tuple(names_in(net[0], "in")))
 
 
 def keepers_of(net):
     """The names of all keepers, in the sequence of the cells."""
     check_net(net)
-    return tuple(names_in(net[0], "keep"))
+    return plainly_made(tuple(names_in(net[0], "keep")))
 
 
 def depths_found(cells):
@@ -240,7 +240,7 @@ def longest_way(net):
     while deep[at] > 0:
         at = [further for further in looks_of(net[0][at]) if deep[further] == deep[at] - 1][0]
         way.append(at)
-    return tuple(way[::-1])
+    return plainly_made(tuple(way[::-1]))
 
 
 def is_longest_way(net, value):

@@ -1,6 +1,6 @@
 """Walks of nets: their beats, in many lanes side by side."""
 
-from truebeat.base.checks import are_words, ascending, is_bit, is_name, is_tuple_of, is_word_of
+from truebeat.base.checks import are_words, is_bit, is_name, is_tuple_of, is_word_of, plainly_made
 from truebeat.base.words import check_number
 from truebeat.errors import InvalidInputs, InvalidState
 from truebeat.nets.net import check_net, names_in
@@ -35,7 +35,7 @@ def first_state(net, lanes, wake):
     firsts = {cell[1]: cell[2] for cell in net[0] if cell[0] == "keep"}
     check_state([name for name in firsts if firsts[name] is None], lanes, wake)
     every = (1 << lanes) - 1
-    return ascending({name: wake[name] if firsts[name] is None else every * firsts[name] for name in firsts})
+    return plainly_made({name: wake[name] if firsts[name] is None else every * firsts[name] for name in firsts})
 
 
 def gate_value(cell, values, every):
@@ -71,14 +71,14 @@ def beat_found(net, lanes, state, inputs):
     cells, outputs = net
     values = values_found(cells, lanes, state, inputs)
     behind = {cell[1]: values[cell[3]] for cell in cells if cell[0] == "keep"}
-    return ascending({name: values[index] for name, index in outputs}), ascending(behind)
+    return plainly_made(({name: values[index] for name, index in outputs}, behind))
 
 
 def worked(net, lanes, state, inputs):
     """The integers of all cells in a beat."""
     check_walk(net, lanes, state)
     check_inputs(names_in(net[0], "in"), lanes, inputs)
-    return tuple(values_found(net[0], lanes, state, inputs))
+    return plainly_made(tuple(values_found(net[0], lanes, state, inputs)))
 
 
 def beat(net, lanes, state, inputs):
@@ -97,7 +97,7 @@ def run(net, lanes, state, rows):
     for inputs in rows:
         check_inputs(names, lanes, inputs)
     told = []
-    last = ascending(state)
+    last = plainly_made(state)
     for inputs in rows:
         outputs, last = beat_found(net, lanes, last, inputs)
         told.append(outputs)
@@ -111,7 +111,7 @@ def lane_of(values, number):
     if not all([is_word_of(MAX_LANES, values[name]) for name in values]):
         raise InvalidState("these are no integers of 64 lanes")
     check_number(number, 0, MAX_LANES - 1)
-    return ascending({name: values[name] >> number & 1 for name in values})
+    return plainly_made({name: values[name] >> number & 1 for name in values})
 
 
 def is_bit_row(value):
@@ -126,4 +126,4 @@ def joined(rows):
     names = sorted(rows[0])
     if not all([sorted(row) == names for row in rows]):
         raise InvalidInputs("these dicts have unlike names")
-    return {name: sum([row[name] << lane for lane, row in enumerate(rows)]) for name in names}
+    return plainly_made({name: sum([row[name] << lane for lane, row in enumerate(rows)]) for name in names})

@@ -1,6 +1,6 @@
 """Long parts: products and quotients made in rounds, some of them at each beat."""
 
-from truebeat.base.checks import is_index, is_tuple_of, is_word_of
+from truebeat.base.checks import is_index, is_tuple_of, is_word_of, plainly_made
 from truebeat.base.words import check_number
 from truebeat.errors import InvalidAsk, InvalidState
 from truebeat.nets.wiring import put
@@ -101,7 +101,7 @@ def long_beat(width, step, state, ask):
         raise InvalidState("no asks lead to this")
     if not is_ask(width, ask):
         raise InvalidAsk("this is no ask")
-    return beat_behind(width, step, state, ask)
+    return plainly_made(beat_behind(width, step, state, ask))
 
 
 def long_run(width, step, asks):

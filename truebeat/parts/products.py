@@ -1,6 +1,6 @@
 """Heaps of bits, the deeds that make them low, and products."""
 
-from truebeat.base.checks import is_between, is_bit, is_index, is_pair, is_tuple_of
+from truebeat.base.checks import is_between, is_bit, is_index, is_pair, is_tuple_of, plainly_made
 from truebeat.base.words import check_number, check_word
 from truebeat.errors import InvalidOperation, InvalidPlan, Refused, TooMany
 from truebeat.nets.wiring import fresh_cells, ports_for, put, put_inputs, put_sum
@@ -77,7 +77,7 @@ def heap_behind(heap, deeds):
             columns[at + 1].append(total // 2)
     if max([len(column) for column in columns]) > MAX_HEIGHT:
         raise TooMany(MAX_HEIGHT)
-    return tuple([tuple(column) for column in columns])
+    return plainly_made(tuple([tuple(column) for column in columns]))
 
 
 def check_heights(heights, most):

@@ -1,6 +1,6 @@
 """Nets laid from sheets, and the bits of their words."""
 
-from truebeat.base.checks import are_words, ascending, is_between
+from truebeat.base.checks import are_words, is_between, plainly_made
 from truebeat.errors import InvalidOperation, InvalidState
 from truebeat.nets.net import check_net, names_in
 from truebeat.nets.walk import beat_found
@@ -16,7 +16,7 @@ def lay(sheet):
     lines, outputs = sheet
     cells, rows = laid_lines(lines)
     ports = [port for name, index in outputs for port in ports_for(name, rows[index])]
-    return tuple(cells), tuple(ports)
+    return plainly_made((tuple(cells), tuple(ports)))
 
 
 def check_widths(widths):
@@ -34,7 +34,7 @@ def bit_names(widths):
 
 def bits_found(widths, words):
     """The dict from the names of bits to the bits, ascending."""
-    return ascending({f"{name}.{bit}": words[name] >> bit & 1 for name in widths for bit in range(widths[name])})
+    return plainly_made({f"{name}.{bit}": words[name] >> bit & 1 for name in widths for bit in range(widths[name])})
 
 
 def bits_of(widths, words):
@@ -50,7 +50,7 @@ def words_of(widths, bits):
     check_widths(widths)
     if not are_words(bits, {name: 1 for name in bit_names(widths)}):
         raise InvalidState("these are no bits of words of these widths")
-    return {name: sum([bits[f"{name}.{bit}"] << bit for bit in range(widths[name])]) for name in sorted(widths)}
+    return plainly_made({name: sum([bits[f"{name}.{bit}"] << bit for bit in range(widths[name])]) for name in widths})
 
 
 def check_bit_names(net, ports):

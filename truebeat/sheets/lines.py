@@ -167,6 +167,5 @@ def total_weight(lines, widths):
 
 
 def port_widths(lines, kind):
-    """The dict from the names of all inputs or keepers to their widths, ascending."""
-    ports = {line[1]: line[2] for line in lines if line[0] == kind}
-    return {name: ports[name] for name in sorted(ports)}
+    """The dict from the names of all inputs or keepers to their widths."""
+    return {line[1]: line[2] for line in lines if line[0] == kind}

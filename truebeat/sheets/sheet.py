@@ -1,6 +1,6 @@
 """Sheets: what words on wires do, line by line."""
 
-from truebeat.base.checks import are_unlike, are_words, ascending, is_index, is_pair, is_tuple_of
+from truebeat.base.checks import are_unlike, are_words, is_index, is_pair, is_tuple_of, plainly_made
 from truebeat.errors import InvalidInputs, InvalidSheet, InvalidState
 from truebeat.sheets.lines import is_port, port_widths, read_widths, total_weight
 from truebeat.sheets.works import words_found
@@ -52,7 +52,7 @@ def checked_widths(sheet):
 
 def widths_of(sheet):
     """The widths of all lines."""
-    return tuple(checked_widths(sheet))
+    return plainly_made(tuple(checked_widths(sheet)))
 
 
 def weight_of(sheet):
@@ -63,14 +63,14 @@ def weight_of(sheet):
 
 def ports_found(sheet, widths):
     """The widths of the inputs, of the keepers and of the outputs, by the widths of the lines."""
-    outputs = ascending({name: widths[index] for name, index in sheet[1]})
+    outputs = {name: widths[index] for name, index in sheet[1]}
     return port_widths(sheet[0], "in"), port_widths(sheet[0], "keep"), outputs
 
 
 def ports_of(sheet):
     """The widths of the inputs, of the keepers and of the outputs, by their names."""
     widths = checked_widths(sheet)
-    return ports_found(sheet, widths)
+    return plainly_made(ports_found(sheet, widths))
 
 
 def check_sheet_state(sheet, state):
@@ -90,7 +90,7 @@ def line_words(sheet, state, inputs):
     widths = checked_widths(sheet)
     check_sheet_state(sheet, state)
     check_sheet_inputs(sheet, inputs)
-    return tuple(words_found(sheet[0], widths, state, inputs))
+    return plainly_made(tuple(words_found(sheet[0], widths, state, inputs)))
 
 
 def beat_of_words(sheet, widths, state, inputs):
@@ -98,7 +98,7 @@ def beat_of_words(sheet, widths, state, inputs):
     lines, outputs = sheet
     words = words_found(lines, widths, state, inputs)
     behind = {line[1]: words[line[4]] for line in lines if line[0] == "keep"}
-    return ascending({name: words[index] for name, index in outputs}), ascending(behind)
+    return plainly_made(({name: words[index] for name, index in outputs}, behind))
 
 
 def sheet_beat(sheet, state, inputs):
@@ -118,7 +118,7 @@ def sheet_run(sheet, state, rows):
     for inputs in rows:
         check_sheet_inputs(sheet, inputs)
     told = []
-    last = ascending(state)
+    last = plainly_made(state)
     for inputs in rows:
         outputs, last = beat_of_words(sheet, widths, last, inputs)
         told.append(outputs)

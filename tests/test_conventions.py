@@ -1,0 +1,123 @@
+"""What holds of all functions [0.1] to [0.3]: own types, unchanged arguments, equal results of equal calls."""
+
+import collections
+import copy
+import unittest
+
+from sheets_made import COUNT, every_kind
+from support import alike, check_own_kinds, random_source
+from test_net import HALF, TURNING, some_lot
+from truebeat.base import words
+from truebeat.errors import Refused
+from truebeat.nets import net, walk
+from truebeat.parts import adders, long, products, shifts
+from truebeat.sheets import lay, sheet
+
+LOOSE = (("and", 3, 3), ("not", 0), ("one",), ("in", "a"), ("keep", "k", None, 0))
+RING = (("not", 1), ("or", 2, 0), ("one",))
+PLAN = (((2, 0), (3, 1), (2, 3)), (0, 1, 2))
+ROUNDS = ((0, 1), (1, 2), (1, 0))
+EVERY = every_kind(3, 2)
+CELLS = some_lot(random_source(1), 14, False)
+STATE = {name: 1 for name in net.keepers_of((CELLS, ()))}
+GIVEN = {name: 1 for name in net.inputs_of((CELLS, ()))}
+CALLS = (
+    (words.is_word, 4, 3), (words.bits_of_word, 4, 6), (words.word_of_bits, (0, 1)), (words.wrapped, 4, 3),
+    (words.signed, 4, 3), (words.carries, 4, 6, 3), (words.added, 4, 6, 0), (words.lessened, 4, 6, 0),
+    (words.is_below, 4, 6, 7), (words.is_under, 4, 6, 7), (words.multiplied, 4, 6, 1), (words.divided, 4, 6, 1),
+    (words.moved_left, 4, 6, 0), (words.moved_right, 4, 6, 0), (words.cut, 4, 6, 0, 4),
+    (words.put_together, ((4, 6),)), (words.widened, 4, 6, 4), (words.lengthened, 4, 6, 4),
+    (net.is_net, HALF), (net.is_lot, LOOSE), (net.order_of, LOOSE), (net.is_order, LOOSE, (2, 3, 0, 1, 4)),
+    (net.least_ring, RING), (net.is_ring, RING, (0, 1)), (net.arranged, LOOSE, (("o", 1),)), (net.inputs_of, HALF),
+    (net.keepers_of, TURNING), (net.depths, HALF), (net.longest_way, HALF), (net.is_longest_way, HALF, (0, 2)),
+    (walk.first_state, (LOOSE[2:4] + (("keep", "k", None, 0), ("keep", "l", 1, 0)), ()), 2, {"k": 2}),
+    (walk.worked, TURNING, 2, {"k": 1}, {"up": 3}), (walk.beat, (CELLS, (("o", 3), ("a", 9))), 1, STATE, GIVEN),
+    (walk.run, TURNING, 2, {"k": 1}, ({"up": 3}, {"up": 0})), (walk.run, TURNING, 2, {"k": 1}, ()),
+    (walk.lane_of, {"b": 1, "a": 0}, 0), (walk.joined, ({"b": 1, "a": 0},)),
+    (sheet.is_sheet, COUNT), (sheet.widths_of, EVERY), (sheet.weight_of, EVERY), (sheet.ports_of, EVERY),
+    (sheet.line_words, EVERY, {"y": 3, "z": 7}, {"x": 1, "k": 1, "b": 0}),
+    (sheet.sheet_beat, COUNT, {"n": 3}, {"up": 0}), (sheet.sheet_run, COUNT, {"n": 3}, ({"up": 0},)),
+    (sheet.sheet_run, COUNT, {"n": 3}, ()), (lay.lay, EVERY), (lay.bits_of, {"x": 2}, {"x": 1}),
+    (lay.words_of, {"x": 1}, {"x.0": 1}), (lay.lay_fault, COUNT, lay.lay(COUNT), {"n": 3}, {"up": 0}),
+    (adders.plan_of, "ladder", 6), (adders.is_plan, 3, PLAN), (adders.row_of, 3, PLAN, 4),
+    (adders.plan_depth, 3, PLAN), (adders.carries_by, 3, PLAN, 5, 3, 1), (adders.plan_paper, 3, PLAN),
+    (adders.is_plan_paper, 3, PLAN, (1, 3, 1, 0)), (adders.merged, 3, PLAN), (adders.adder_net, 3, PLAN),
+    (adders.picked_net, 3, 2), (adders.compared_net, 3), (shifts.plain_rounds, 3),
+    (shifts.moved_by, 4, "right", 2, ROUNDS, 9, 0), (shifts.rounds_paper, 4, "left", 2, ROUNDS[1:]),
+    (shifts.is_rounds_paper, 4, "left", 2, ROUNDS[1:], (1, 1)), (shifts.shift_net, 4, "left", 2, ROUNDS),
+    (products.worth, ((1,), (0, 1))), (products.heap_behind, ((1, 0), (1,)), (("two", 0),)),
+    (products.heap_behind, ((1, 0),), ()), (products.fewest_deeds, (3, 2), 1), (products.low_deeds, (3, 2), 1),
+    (products.are_low_deeds, (3,), 1, (("three", 0),)), (products.product_heap, 3, 5, 7),
+    (products.product_net, 3, (("two", 1),)), (long.is_long, 4, 2, ("part", 13, 3, 2, 0, 5)),
+    (long.long_beat, 4, 2, ("part", 13, 3, 2, 0, 5), None), (long.long_beat, 4, 2, long.IDLE, ("begin", "rest", 1, 2)),
+    (long.long_run, 1, 1, (("begin", "rest", 1, 0), None, None)), (long.long_net, 2, 2),
+)
+
+
+class Whole(int):
+    pass
+
+
+class Text(str):
+    pass
+
+
+class Row(tuple):
+    pass
+
+
+def derived(value):
+    """The same value, made of types derived from Python's own ones, its dicts in another order."""
+    if isinstance(value, tuple):
+        return Row(derived(member) for member in value)
+    if isinstance(value, dict):
+        table = collections.defaultdict(int)
+        for key in reversed(list(value)):
+            table[derived(key)] = derived(value[key])
+        return table
+    return value if value is None else Text(value) if isinstance(value, str) else Whole(value)
+
+
+class ConventionsTest(unittest.TestCase):
+    def test_own_types(self):
+        for function, *args in CALLS:
+            check_own_kinds(self, function(*args))
+
+    def test_own_types_of_derived_ones(self):
+        for function, *args in CALLS:
+            result = function(*[derived(arg) for arg in args])
+            self.assertTrue(alike(result, function(*args)), (function.__name__, args, result))
+        carried = words.carries(Whole(4), Whole(6), Whole(3), first=Whole(1))
+        self.assertTrue(alike(carried, words.carries(4, 6, 3, first=1)))
+        with self.assertRaises(Refused) as caught:
+            net.arranged(derived(RING), Row())
+        self.assertTrue(alike(caught.exception.reason, ("ring", (0, 1))))
+
+    def test_arguments_stay(self):
+        for function, *args in CALLS:
+            before = copy.deepcopy(args)
+            function(*args)
+            self.assertTrue(alike(before, args), function.__name__)
+            some = derived(tuple(args))
+            function(*some)
+            self.assertTrue(alike(some, derived(tuple(args))), function.__name__)
+
+    def test_equal_calls_and_own_dicts(self):
+        for function, *args in CALLS:
+            one, other = function(*args), function(*args)
+            self.assertTrue(alike(one, other), function.__name__)
+            passed = [id(arg) for arg in dicts_in(tuple(args))]
+            for table in dicts_in(one):
+                self.assertNotIn(id(table), passed, function.__name__)
+                self.assertNotIn(id(table), [id(again) for again in dicts_in(other)])
+
+
+def dicts_in(value):
+    """All dicts within a value of tuples and dicts."""
+    if isinstance(value, tuple):
+        return [table for member in value for table in dicts_in(member)]
+    return [value] if isinstance(value, dict) else []
+
+
+if __name__ == "__main__":
+    unittest.main()
