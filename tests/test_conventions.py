@@ -9,8 +9,10 @@ from support import alike, check_own_kinds, random_source
 from test_net import HALF, TURNING, some_lot
 from truebeat.base import words
 from truebeat.errors import Refused
+from truebeat.judge import alike as judge, clocked, lesser, tables, waking
 from truebeat.nets import net, walk
 from truebeat.parts import adders, long, products, shifts
+from truebeat.plain import shapes
 from truebeat.sheets import lay, sheet
 
 LOOSE = (("and", 3, 3), ("not", 0), ("one",), ("in", "a"), ("keep", "k", None, 0))
@@ -21,6 +23,13 @@ EVERY = every_kind(3, 2)
 CELLS = some_lot(random_source(1), 14, False)
 STATE = {name: 1 for name in net.keepers_of((CELLS, ()))}
 GIVEN = {name: 1 for name in net.inputs_of((CELLS, ()))}
+TABLE = ((1, 0, 1), (0, 2, 1))
+FILLING = {"y": 0, "x": 1}
+PAPER = judge.alike_paper(HALF, HALF)
+BOTH = ((("in", "x"), ("not", 0), ("keep", "l", 1, 3), ("keep", "k", 0, 1)), (("o", 2), ("p", 3)))
+CHANGED = (BOTH[0][:3] + (("keep", "k", 1, 1),), BOTH[1])
+LESSER = lesser.lesser(BOTH)
+ROWS = ({"x": None}, {"x": 1})
 CALLS = (
     (words.is_word, 4, 3), (words.bits_of_word, 4, 6), (words.word_of_bits, (0, 1)), (words.wrapped, 4, 3),
     (words.signed, 4, 3), (words.carries, 4, 6, 3), (words.added, 4, 6, 0), (words.lessened, 4, 6, 0),
@@ -51,6 +60,26 @@ CALLS = (
     (products.product_net, 3, (("two", 1),)), (long.is_long, 4, 2, ("part", 13, 3, 2, 0, 5)),
     (long.long_beat, 4, 2, ("part", 13, 3, 2, 0, 5), None), (long.long_beat, 4, 2, long.IDLE, ("begin", "rest", 1, 2)),
     (long.long_run, 1, 1, (("begin", "rest", 1, 0), None, None)), (long.long_net, 2, 2),
+    (tables.is_table, ("x", "y"), TABLE), (tables.table_value, ("x", "y"), TABLE, 3, FILLING),
+    (tables.table_value, ("x", "y"), TABLE, 1, FILLING), (tables.table_of, ("y", "x"), HALF),
+    (tables.ones, ("x", "y"), TABLE, 3), (tables.least_order, HALF), (tables.is_least_order, HALF, (4, ("x", "y"))),
+    (judge.alike_paper, HALF, HALF), (judge.alike_paper, HALF, (HALF[0], (("carry", 0), ("sum", 2)))),
+    (judge.is_alike_paper, HALF, HALF, PAPER), (judge.parting_number, HALF, HALF),
+    (judge.first_parting, HALF, (HALF[0], (("carry", 0), ("sum", 2)))),
+    (judge.is_alike_paper, HALF, (HALF[0], (("carry", 0), ("sum", 2))), ("unlike", FILLING, "carry")),
+    (lesser.wire_classes, BOTH), (lesser.are_classes, BOTH, lesser.wire_classes(BOTH)), (lesser.lesser, BOTH),
+    (lesser.is_wire_paper, BOTH, *LESSER), (lesser.is_lesser, BOTH, LESSER), (lesser.least_hard, BOTH),
+    (lesser.wire_classes, ((("keep", "k", 1, 0), ("keep", "m", 0, 1), ("not", 0)), ())),
+    (clocked.done_by, BOTH, (0, 1), ((1,), (0,))), (clocked.done_by, BOTH, (0, 1), ()), (clocked.reached, BOTH),
+    (clocked.parting_row, BOTH, (0, 0), (1, 0)), (clocked.is_parting_row, BOTH, (0, 0), (1, 0), ((1,),)),
+    (clocked.classes, BOTH), (clocked.machine_of, BOTH), (clocked.clocked, BOTH, BOTH), (clocked.clocked, BOTH, CHANGED),
+    (clocked.is_clocked_paper, BOTH, BOTH, clocked.clocked(BOTH, BOTH)),
+    (clocked.is_clocked_paper, BOTH, CHANGED, ("apart", ((0,),))),
+    (waking.three_beat, BOTH, {"l": 1, "k": None}, {"x": 0}), (waking.three_run, BOTH, ROWS), (waking.known, BOTH, ROWS),
+    (waking.unlike_wakings, BOTH, ROWS, "l"), (waking.settled, BOTH, {"x": 1}), (waking.settled, TURNING, {"up": 1}),
+    (waking.are_unlike_wakings, BOTH, ROWS, "l", waking.unlike_wakings(BOTH, ROWS, "l")),
+    (waking.is_settled_paper, BOTH, {"x": 1}, waking.settled(BOTH, {"x": 1})), (waking.three_run, BOTH, ()),
+    (shapes.fields_of, 37887), (shapes.word_of, 9, 1, 7, 63), (shapes.given_by, shapes.Shape(4, 2), 37887),
 )
 
 
@@ -75,7 +104,9 @@ def derived(value):
         for key in reversed(list(value)):
             table[derived(key)] = derived(value[key])
         return table
-    return value if value is None else Text(value) if isinstance(value, str) else Whole(value)
+    if isinstance(value, str):
+        return Text(value)
+    return Whole(value) if type(value) is int else value
 
 
 class ConventionsTest(unittest.TestCase):

@@ -38,6 +38,27 @@ INTERFACE = {
     "truebeat.parts.long": (
         "is_long(width, step, value)", "long_beat(width, step, state, ask)", "long_run(width, step, asks)",
         "long_net(width, step)"),
+    "truebeat.judge.tables": (
+        "is_table(names, value)", "table_value(names, table, node, filling)", "table_of(names, net)",
+        "ones(names, table, node)", "least_order(net)", "is_least_order(net, value)"),
+    "truebeat.judge.alike": (
+        "alike_paper(one, other)", "is_alike_paper(one, other, value)", "parting_number(one, other)",
+        "first_parting(one, other)"),
+    "truebeat.judge.lesser": (
+        "are_classes(net, value)", "wire_classes(net)", "is_wire_paper(net, other, value)", "lesser(net)",
+        "is_lesser(net, value)", "least_hard(net)"),
+    "truebeat.judge.clocked": (
+        "done_by(net, state, row)", "reached(net)", "parting_row(net, first, second)",
+        "is_parting_row(net, first, second, value)", "classes(net)", "machine_of(net)", "clocked(one, other)",
+        "is_clocked_paper(one, other, value)"),
+    "truebeat.judge.waking": (
+        "three_beat(net, state, inputs)", "three_run(net, rows)", "known(net, rows)",
+        "unlike_wakings(net, rows, name)", "are_unlike_wakings(net, rows, name, value)", "settled(net, inputs)",
+        "is_settled_paper(net, inputs, value)"),
+    "truebeat.plain.shapes": ("fields_of(word)", "word_of(op, a, b, c)", "given_by(shape, word)"),
+}
+CLASSES = {
+    "truebeat.plain.shapes": {"Shape(width, registers)": ("width", "registers")},
 }
 
 
@@ -50,6 +71,27 @@ class InterfaceTest(unittest.TestCase):
                 self.assertTrue(inspect.isfunction(function), name)
                 self.assertEqual(function.__module__, module, name)
                 self.assertEqual(name + str(inspect.signature(function)), words)
+
+    def test_classes(self):
+        for module, told in CLASSES.items():
+            for words, members in told.items():
+                name = words.split("(")[0]
+                found = getattr(importlib.import_module(module), name)
+                self.assertTrue(inspect.isclass(found), name)
+                self.assertEqual(found.__module__, module, name)
+                self.assertEqual(name + str(inspect.signature(found)), words)
+                for member in ("__eq__", "__str__", *members):
+                    self.check_member(found, member)
+
+    def check_member(self, found, member):
+        """A property has its name alone, a method its parameters, too."""
+        name = member.split("(")[0]
+        self.assertIn(name, vars(found))
+        if "(" in member:
+            words = name + str(inspect.signature(vars(found)[name])).replace("(self, ", "(").replace("(self)", "()")
+            self.assertEqual(words, member)
+        elif not name.startswith("__"):
+            self.assertIsInstance(vars(found)[name], property)
 
 
 if __name__ == "__main__":

@@ -148,7 +148,30 @@ class FilesTest(unittest.TestCase):
             for node in ast.walk(tree):
                 if isinstance(node, ast.FunctionDef):
                     self.assertLessEqual(node.end_lineno - node.lineno + 1, 40, (path, node.name))
-                    self.assertEqual(node.decorator_list, [], (path, node.name))
+
+    def test_decorators_and_methods(self):
+        for path, tree in parsed().items():
+            methods = {inner: node for node in tree.body if isinstance(node, ast.ClassDef) for inner in node.body}
+            for node in ast.walk(tree):
+                if not isinstance(node, ast.FunctionDef):
+                    continue
+                words = [getattr(word, "id", "") for word in node.decorator_list]
+                self.assertIn(words, [[], ["property"]] if node in methods else [[]], (path, node.name))
+                if words:
+                    self.assertEqual([arg.arg for arg in node.args.args], ["self"], (path, node.name))
+                if node.name.startswith("__"):
+                    self.assertIn(node, methods, path)
+                    self.assertIn(node.name, ("__init__", "__eq__", "__str__"), path)
+
+    def test_attributes_are_no_properties(self):
+        """No attribute has the name of a property, which could not be assigned."""
+        properties = {node.name for tree in parsed().values() for node in ast.walk(tree)
+                      if isinstance(node, ast.FunctionDef) and node.decorator_list}
+        for path, tree in parsed().items():
+            for node in ast.walk(tree):
+                if isinstance(node, ast.Attribute) and isinstance(node.ctx, ast.Store):
+                    self.assertNotIn(node.attr, properties, (path, node.lineno))
+                    self.assertIsInstance(node.value, ast.Name, (path, node.lineno))
 
 
 class NamesTest(unittest.TestCase):
@@ -195,7 +218,7 @@ class NamesTest(unittest.TestCase):
 
     def test_all_names_are_known(self):
         for path, tree in parsed().items():
-            known = set(bound_names(tree) + imported_names(tree)) | BUILTINS | ERRORS
+            known = set(bound_names(tree) + imported_names(tree)) | BUILTINS | ERRORS | {"property"}
             known |= {name for name, _ in local_names(tree)}
             for node in ast.walk(tree):
                 if isinstance(node, ast.Name):
@@ -243,7 +266,7 @@ class RowsTest(unittest.TestCase):
                 if isinstance(node, (ast.operator, ast.unaryop, ast.boolop)):
                     self.assertIsInstance(node, OPERATORS, path)
                 if isinstance(node, ast.Constant):
-                    self.assertIsInstance(node.value, (int, str, type(None)), (path, node.lineno))
+                    self.assertIn(type(node.value), (int, str, bool, type(None)), (path, node.lineno))
 
     def test_exponents_and_identity(self):
         for path, tree in parsed().items():
@@ -266,6 +289,9 @@ class RowsTest(unittest.TestCase):
                 if not isinstance(node, ast.Call):
                     continue
                 self.assertIsInstance(node.func, (ast.Name, ast.Attribute), (path, node.lineno))
+                for given in node.args:
+                    if isinstance(given, ast.Starred):
+                        self.assertIsInstance(given.value, (ast.Name, ast.Attribute), (path, node.lineno))
                 name = node.func.attr if isinstance(node.func, ast.Attribute) else node.func.id
                 if isinstance(node.func, ast.Attribute):
                     self.assertIn(name, methods, (path, node.lineno))

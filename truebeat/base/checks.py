@@ -53,6 +53,11 @@ def are_unlike(names):
     return len(set(names)) == len(names)
 
 
+def is_ascending(values):
+    """Whether the values, which can be compared, ascend strictly."""
+    return all([one < other for one, other in zip(values, values[1:])])
+
+
 def are_words(value, widths):
     """Whether the value is a dict with just the names of a dict of widths, to words of these widths."""
     if not isinstance(value, dict) or len(value) != len(widths):

@@ -1,0 +1,1 @@
+"""Judges of nets: tables of decisions, likeness, lesser nets, machines of states, wakings."""

@@ -1,0 +1,1 @@
+"""The plain machine and its shapes."""
