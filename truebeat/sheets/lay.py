@@ -50,22 +50,46 @@ def words_of(widths, bits):
     check_widths(widths)
     if not are_words(bits, {name: 1 for name in bit_names(widths)}):
         raise InvalidState("these are no bits of words of these widths")
+    return joined_words(widths, bits)
+
+
+def joined_words(widths, bits):
+    """The dict from names to the words that have these bits, ascending."""
     return plainly_made({name: sum([bits[f"{name}.{bit}"] << bit for bit in range(widths[name])]) for name in widths})
+
+
+def have_bit_names(net, ports):
+    """Whether the inputs, the keepers and the outputs of a net are the bits of those of a sheet."""
+    cells, outputs = net
+    told = (names_in(cells, "in"), names_in(cells, "keep"), [name for name, index in outputs])
+    return all([sorted(names) == sorted(bit_names(widths)) for names, widths in zip(told, ports)])
 
 
 def check_bit_names(net, ports):
     """Refuse a net whose inputs, keepers and outputs are not the bits of those of a sheet."""
-    cells, outputs = net
-    told = (names_in(cells, "in"), names_in(cells, "keep"), [name for name, index in outputs])
-    for names, widths in zip(told, ports):
-        if sorted(names) != sorted(bit_names(widths)):
-            raise InvalidOperation("the net has other names than the bits of the sheet")
+    if not have_bit_names(net, ports):
+        raise InvalidOperation("the net has other names than the bits of the sheet")
+
+
+def beat_of_bits_in(net, ports, state, inputs):
+    """The bits of the outputs in a beat from words, and those of the keepers behind it."""
+    return beat_found(net, 1, bits_found(ports[1], state), bits_found(ports[0], inputs))
 
 
 def least_unlike(told, right):
-    """The least name with unlike bits, `None` if there is none."""
+    """The least name with unlike values, `None` if there is none."""
     unlike = [name for name in right if told[name] != right[name]]
     return min(unlike, default=None)
+
+
+def bit_fault(net, ports, ahead, right):
+    """What the beat of a net from a state and inputs does otherwise than the right outputs and state behind it."""
+    told, kept = beat_of_bits_in(net, ports, *ahead)
+    output = least_unlike(told, bits_found(ports[2], right[0]))
+    if output is not None:
+        return ("output", output)
+    keeper = least_unlike(kept, bits_found(ports[1], right[1]))
+    return None if keeper is None else ("keeper", keeper)
 
 
 def lay_fault(sheet, net, state, inputs):
@@ -76,10 +100,4 @@ def lay_fault(sheet, net, state, inputs):
     check_sheet_inputs(sheet, inputs)
     ports = ports_found(sheet, widths)
     check_bit_names(net, ports)
-    words, behind = beat_of_words(sheet, widths, state, inputs)
-    told, kept = beat_found(net, 1, bits_found(ports[1], state), bits_found(ports[0], inputs))
-    output = least_unlike(told, bits_found(ports[2], words))
-    if output is not None:
-        return ("output", output)
-    keeper = least_unlike(kept, bits_found(ports[1], behind))
-    return None if keeper is None else ("keeper", keeper)
+    return bit_fault(net, ports, (state, inputs), beat_of_words(sheet, widths, state, inputs))
