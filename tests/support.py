@@ -4,12 +4,16 @@ import copy
 import random
 
 from truebeat import errors
+from truebeat.plain.machine import Plain
+from truebeat.plain.shapes import Shape
 
+PLAIN = Plain(Shape(4, 2), (0,))
 DEEP = (((((((1,),),),),),),)
 ODD = (
     None, True, False, -1, -7, 10 ** 59 * 99, -(10 ** 60), 10 ** 219, "", "x", "not", "tab\tand\nline", "y" * 20000,
     (), (0,), (True,), (None,), ("x",), ((),), (0, 0, 0), ("x", 1), ("in", "x", True), DEEP, [], [0], [[]], {}, {0: 0},
     {"x": True}, {"x": 1}, {None: ()}, {(1, 2): []}, errors.TooMany(3), errors.InvalidNet("x"),
+    PLAIN,
 )
 KEPT = {
     errors.InvalidNumber: "given", errors.UnknownName: "asked", errors.TooMany: "limit", errors.Refused: "reason",
@@ -93,7 +97,7 @@ def check_judge(test, function, ahead, rights, wrongs):
     for value in rights:
         test.assertIs(function(*ahead, value), True, (function.__name__, str(value)[:300]))
     for value in list(wrongs) + odd_but(*rights):
-        before = copy.deepcopy(value) if not isinstance(value, Exception) else value
+        before = copy.deepcopy(value) if not isinstance(value, (Exception, Plain)) else value
         test.assertIs(function(*ahead, value), False, (function.__name__, str(value)[:300]))
         test.assertTrue(alike(before, value))
 

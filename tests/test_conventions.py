@@ -4,15 +4,18 @@ import collections
 import copy
 import unittest
 
+from machines_made import some_pipe
 from sheets_made import COUNT, every_kind
-from support import alike, check_own_kinds, random_source
+from support import alike, check_own_kinds, error_of, random_source
 from test_net import HALF, TURNING, some_lot
 from truebeat.base import words
+from truebeat.core import gates, meaning, pipe, single
 from truebeat.errors import Refused
 from truebeat.judge import alike as judge, clocked, lesser, tables, waking
 from truebeat.nets import net, walk
 from truebeat.parts import adders, long, products, shifts
 from truebeat.plain import shapes
+from truebeat.plain.machine import Plain
 from truebeat.sheets import lay, sheet
 
 LOOSE = (("and", 3, 3), ("not", 0), ("one",), ("in", "a"), ("keep", "k", None, 0))
@@ -30,6 +33,11 @@ BOTH = ((("in", "x"), ("not", 0), ("keep", "l", 1, 3), ("keep", "k", 0, 1)), (("
 CHANGED = (BOTH[0][:3] + (("keep", "k", 1, 1),), BOTH[1])
 LESSER = lesser.lesser(BOTH)
 ROWS = ({"x": None}, {"x": 1})
+SHAPE = shapes.Shape(4, 2)
+SINGLE = {"pc": 1, "r1": 7, "saved": 0, "allowed": 1, "ended": 0}
+PIPE = {**some_pipe(random_source(4), SHAPE), "m_kind": 2, "m_x": 3, "m_y": 4, "ended": 0}
+WAITING = {**pipe.first_pipe(SHAPE), "m_kind": 2, "m_x": 3, "m_y": 4}
+MEMORY, CHOICE = {9: 1, 2: 3}, (3, 1, 9, 0)
 CALLS = (
     (words.is_word, 4, 3), (words.bits_of_word, 4, 6), (words.word_of_bits, (0, 1)), (words.wrapped, 4, 3),
     (words.signed, 4, 3), (words.carries, 4, 6, 3), (words.added, 4, 6, 0), (words.lessened, 4, 6, 0),
@@ -80,6 +88,17 @@ CALLS = (
     (waking.are_unlike_wakings, BOTH, ROWS, "l", waking.unlike_wakings(BOTH, ROWS, "l")),
     (waking.is_settled_paper, BOTH, {"x": 1}, waking.settled(BOTH, {"x": 1})), (waking.three_run, BOTH, ()),
     (shapes.fields_of, 37887), (shapes.word_of, 9, 1, 7, 63), (shapes.given_by, shapes.Shape(4, 2), 37887),
+    (single.single_beat, SHAPE, SINGLE, 37887, 3, 1), (single.single_beat, SHAPE, {**SINGLE, "ended": 2}, 0, 0, 0),
+    (single.single_of, Plain(SHAPE, (0,), pc=3, allowed=True)), (single.single_sheet, SHAPE), (single.single_net, SHAPE),
+    (single.single_fault, SHAPE, single.single_net(SHAPE), SINGLE, 37887, 3, 1), (pipe.first_pipe, SHAPE),
+    (pipe.is_pipe, SHAPE, PIPE), (pipe.reads_of, SHAPE, 37887), (pipe.is_long_word, 37887, 2), (pipe.asked, SHAPE, PIPE),
+    (pipe.pipe_beat, SHAPE, PIPE, 37887, CHOICE), (pipe.pipe_beat, SHAPE, PIPE, 37887, (3, 0, 9, 0)),
+    (meaning.is_kept, SHAPE, PIPE, MEMORY, (0, 1)), (meaning.rank, SHAPE, PIPE), (meaning.drained, SHAPE, PIPE, MEMORY),
+    (meaning.square, SHAPE, WAITING, MEMORY, (0, 1), (3, 1, 0)), (gates.core_ports, SHAPE), (gates.core_sheet, SHAPE),
+    (meaning.square, SHAPE, WAITING, MEMORY, (0, 1), (3, 0, 0)), (gates.core_net, SHAPE),
+    (gates.has_core_names, SHAPE, gates.core_net(SHAPE)),
+    (gates.net_beat, SHAPE, gates.core_net(SHAPE), PIPE, 37887, CHOICE),
+    (gates.beat_fault, SHAPE, gates.core_net(SHAPE), PIPE, 37887, CHOICE),
 )
 
 
@@ -123,6 +142,30 @@ class ConventionsTest(unittest.TestCase):
         with self.assertRaises(Refused) as caught:
             net.arranged(derived(RING), Row())
         self.assertTrue(alike(caught.exception.reason, ("ring", (0, 1))))
+
+    def test_own_types_in_objects(self):
+        told = {"pc": 3, "registers": (0, 7), "memory": MEMORY, "saved": 4, "ended": ("fault", "word"), "outputs": (1, 2)}
+        plain = Plain(derived(SHAPE), derived((5, 6)), allowed=True, **{name: derived(told[name]) for name in told})
+        self.check_plain(plain)
+        self.check_plain(meaning.meaning(SHAPE, derived(PIPE), derived(MEMORY), derived((5, 6))))
+        self.check_plain(single.plain_of(SHAPE, derived(SINGLE), derived((5, 6)), derived(MEMORY)))
+        running = Plain(SHAPE, derived((37379, 61953, 61440)), memory=derived(MEMORY))
+        self.check_plain(running.step(Whole(1)).run(Whole(5), derived((1, 2))))
+        check_own_kinds(self, tuple(running.trace(Whole(5), derived((1, 2)))))
+
+    def check_plain(self, plain):
+        names = ("program", "pc", "registers", "memory", "saved", "allowed", "ended", "outputs", "word")
+        check_own_kinds(self, tuple(getattr(plain, name) for name in names))
+        check_own_kinds(self, (str(plain), plain.shape.width, plain.shape.registers))
+
+    def test_own_types_of_what_errors_keep(self):
+        for function, args, name, right in (
+                (words.is_word, (Whole(33), 0), "given", 33), (words.wrapped, (4, Whole(10 ** 70)), "given", 10 ** 70),
+                (adders.plan_of, (Text("column"), 3), "asked", "column"), (shapes.fields_of, (Whole(-1),), "given", -1),
+                (waking.unlike_wakings, (BOTH, ROWS, Text("m")), "asked", "m"), (pipe.is_long_word, (0, Whole(65536)),
+                                                                              "given", 65536),
+                (shifts.plain_rounds, (True,), "given", True), (shifts.plain_rounds, ([1],), "given", [1])):
+            self.assertTrue(alike(getattr(error_of(function, *args), name), right), function.__name__)
 
     def test_arguments_stay(self):
         for function, *args in CALLS:

@@ -56,9 +56,26 @@ INTERFACE = {
         "unlike_wakings(net, rows, name)", "are_unlike_wakings(net, rows, name, value)", "settled(net, inputs)",
         "is_settled_paper(net, inputs, value)"),
     "truebeat.plain.shapes": ("fields_of(word)", "word_of(op, a, b, c)", "given_by(shape, word)"),
+    "truebeat.core.single": (
+        "single_beat(shape, state, word, data, bell, *, reset=0)", "plain_of(shape, state, program, memory)",
+        "single_of(plain)", "single_sheet(shape)", "single_net(shape)",
+        "single_fault(shape, net, state, word, data, bell, *, reset=0)"),
+    "truebeat.core.pipe": (
+        "first_pipe(shape)", "is_pipe(shape, value)", "reads_of(shape, word)", "is_long_word(word, two)",
+        "asked(shape, state)", "pipe_beat(shape, state, word, choice, *, reset=0)"),
+    "truebeat.core.meaning": (
+        "meaning(shape, state, memory, program)", "is_kept(shape, state, memory, program)", "rank(shape, state)",
+        "drained(shape, state, memory)", "square(shape, state, memory, program, choice)"),
+    "truebeat.core.gates": (
+        "core_ports(shape)", "core_sheet(shape)", "core_net(shape)", "has_core_names(shape, value)",
+        "net_beat(shape, net, state, word, choice, *, reset=0)", "beat_fault(shape, net, state, word, choice, *, reset=0)"),
 }
 CLASSES = {
     "truebeat.plain.shapes": {"Shape(width, registers)": ("width", "registers")},
+    "truebeat.plain.machine": {
+        "Plain(shape, program, *, pc=0, registers=None, memory=None, saved=0, allowed=False, ended=None, outputs=())": (
+            "shape", "program", "pc", "registers", "memory", "saved", "allowed", "ended", "outputs", "word", "step(bell=0)",
+            "run(steps, bells=())", "trace(steps, bells=())")},
 }
 
 

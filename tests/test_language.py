@@ -34,7 +34,7 @@ STATEMENTS = (
 EXPRESSIONS = (
     ast.Constant, ast.Name, ast.Attribute, ast.Subscript, ast.Slice, ast.Call, ast.BinOp, ast.UnaryOp, ast.BoolOp,
     ast.Compare, ast.IfExp, ast.Tuple, ast.List, ast.Dict, ast.ListComp, ast.DictComp, ast.Starred, ast.JoinedStr,
-    ast.FormattedValue)
+    ast.FormattedValue, ast.Yield)
 OPERATORS = (
     ast.Add, ast.Sub, ast.Mult, ast.FloorDiv, ast.Mod, ast.Pow, ast.BitAnd, ast.BitOr, ast.BitXor, ast.LShift,
     ast.RShift, ast.USub, ast.Not, ast.Invert, ast.And, ast.Or)

@@ -65,6 +65,13 @@ def are_words(value, widths):
     return all([name in value and is_word_of(widths[name], value[name]) for name in widths])
 
 
+def own_value(value):
+    """A wrong value as errors keep it: an integer or a string is of Python's own types."""
+    if isinstance(value, int) and not isinstance(value, bool):
+        return int(value)
+    return value[:] if isinstance(value, str) else value
+
+
 def plainly_made(value):
     """A good value of its own, made of Python's own types, the keys of its dicts ascending.
 

@@ -1,6 +1,6 @@
 """Words of 1 to 32 bits, and what is reckoned with them."""
 
-from truebeat.base.checks import is_between, is_bit, is_integer, is_pair, is_tuple_of, is_word_of
+from truebeat.base.checks import is_between, is_bit, is_integer, is_pair, is_tuple_of, is_word_of, own_value
 from truebeat.errors import InvalidNumber, InvalidOperation, Refused, TooMany
 
 MAX_WIDTH = 32
@@ -10,7 +10,7 @@ MAX_PLACES = 63
 def check_number(value, least, most):
     """Refuse what is no integer from the least to the most."""
     if not is_between(value, least, most):
-        raise InvalidNumber(value)
+        raise InvalidNumber(own_value(value))
 
 
 def check_width(width):
@@ -58,7 +58,7 @@ def wrapped(width, number):
     """The word of an integer modulo the width."""
     check_width(width)
     if not is_integer(number):
-        raise InvalidNumber(number)
+        raise InvalidNumber(own_value(number))
     return number % (1 << width)
 
 

@@ -170,7 +170,7 @@ def draw_deed(drawing, shape, found, values, places, special):
     found["result"] = draw(drawing, "choose", found["op"], tuple(results))
     yes, no = told(drawing, 1, 1), told(drawing, 1, 0)
     gives = both(drawing, found["works_long"], turned(drawing, faulty))
-    gives = draw(drawing, "choose", found["op"], (*[yes] * 10, no, no, no, no, yes, gives))
+    gives = draw(drawing, "choose", found["op"], tuple([yes] * 10 + [no] * 4 + [yes, gives]))
     found["gives"] = both(drawing, gives, draw(drawing, "any", found["a"]))
     found["further"] = draw_further(drawing, found, values, pc, near, saved)
     allows = pick(drawing, found["allow"], draw(drawing, "cut", one, 0, 1), allowed)

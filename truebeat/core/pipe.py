@@ -1,8 +1,8 @@
 """The pipe: up to five steps at once, each in a place of its own."""
 
-from truebeat.base.checks import is_word_of, are_words, plainly_made
-from truebeat.core.fields import WORD_BITS, check_bit_choice, check_choice, check_fields, held_in, pipe_widths
-from truebeat.errors import InvalidNumber
+from truebeat.base.checks import are_words, plainly_made
+from truebeat.base.words import check_word
+from truebeat.core.fields import WORD_BITS, check_bit_choice, check_choice, check_fields, pipe_widths
 from truebeat.plain.deeds import LOAD, STORE, deed_of, reads_found
 from truebeat.plain.machine import BELL_PLACE
 from truebeat.plain.shapes import check_shape, check_step_word, fields, given_by, is_long_kind
@@ -48,8 +48,7 @@ def is_long(word, two):
 def is_long_word(word, two):
     """Whether a step word is long with a second value."""
     check_step_word(word)
-    if not is_word_of(WORD_BITS, two):
-        raise InvalidNumber(two)
+    check_word(WORD_BITS, two)
     return is_long(word, two)
 
 
@@ -132,7 +131,7 @@ def value_behind(state, number):
     return state["w_x"] if state["w_to"] == number else state[f"r{number}"]
 
 
-def decode(shape, ahead, state):
+def come_to_work(shape, ahead, state):
     """Let the step in decode come to work, if it is not held; whether it came."""
     numbers = reads_found(shape, ahead["d_word"])
     if state["m_kind"] == LOAD and state["m_to"] > 0 and state["m_to"] in numbers:
@@ -184,7 +183,7 @@ def move_on(shape, ahead, state, word, choice, wires):
     if struck:
         put_place(state, DECODED, (0, 0, 0, 0))
         return
-    comes = ahead["d_on"] == 1 and not stays and decode(shape, ahead, state)
+    comes = ahead["d_on"] == 1 and not stays and come_to_work(shape, ahead, state)
     if ahead["d_on"] == 0 or comes:
         put_place(state, DECODED, (1, ahead["pc"], word, guess))
         state["pc"] = guess

@@ -1,6 +1,6 @@
 """Keepers that wake as anything: what is known of them behind some beats."""
 
-from truebeat.base.checks import are_words, is_bit, is_integer, is_pair, is_tuple_of, plainly_made
+from truebeat.base.checks import are_words, is_bit, is_integer, is_pair, is_tuple_of, own_value, plainly_made
 from truebeat.errors import InvalidInputs, InvalidState, TooMany, UnknownName
 from truebeat.judge.fillings import filling_of, lowest_one, number_of_bits, numbers_at_all, patterns
 from truebeat.nets.net import LOOKS, check_net, names_in
@@ -157,7 +157,7 @@ def run_told(net, rows, letters, number):
 def check_keeper_name(net, name):
     """Refuse what is no name of a keeper."""
     if not isinstance(name, str) or name not in names_in(net[0], "keep"):
-        raise UnknownName(name)
+        raise UnknownName(own_value(name))
 
 
 def unlike_wakings(net, rows, name):

@@ -1,6 +1,6 @@
 """Adders: plans of joins that tell the carries, and the nets made by them."""
 
-from truebeat.base.checks import is_bit, is_index, is_pair, is_tuple_of, is_word_of
+from truebeat.base.checks import is_bit, is_index, is_pair, is_tuple_of, is_word_of, own_value
 from truebeat.base.words import carries, check_number, check_word
 from truebeat.errors import InvalidPlan, UnknownName
 from truebeat.nets.wiring import ONE, ZERO, fresh_cells, ports_for, put, put_add, put_each, put_inputs, put_pick
@@ -66,7 +66,7 @@ JOININGS = {"row": join_row, "halves": join_halves, "doubling": join_doubling, "
 def plan_of(kind, size):
     """The plan of this kind."""
     if not isinstance(kind, str) or kind not in JOININGS:
-        raise UnknownName(kind)
+        raise UnknownName(own_value(kind))
     check_size(size)
     joins = []
     here = list(range(size))

@@ -1,6 +1,6 @@
 """Shifts in rounds, and the nets made by them."""
 
-from truebeat.base.checks import is_between, is_index, is_pair, is_tuple_of, is_word_of
+from truebeat.base.checks import is_between, is_index, is_pair, is_tuple_of, is_word_of, own_value
 from truebeat.base.words import check_number, check_word
 from truebeat.errors import InvalidPlan, UnknownName
 from truebeat.nets.wiring import fresh_cells, moved_row, ports_for, put_inputs, put_pick
@@ -21,7 +21,7 @@ def check_rounds(size, side, many, rounds):
     """Refuse, in this sequence, a wrong size, side, number of bits of the amount, and wrong rounds."""
     check_number(size, 1, MAX_SHIFTED)
     if side not in SIDES:
-        raise UnknownName(side)
+        raise UnknownName(own_value(side))
     check_number(many, 1, MAX_AMOUNT)
     if not is_tuple_of(rounds, 0, MAX_ROUNDS) or not all([is_shift_round(pair, many) for pair in rounds]):
         raise InvalidPlan("these are no rounds for such amounts")

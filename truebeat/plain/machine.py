@@ -132,15 +132,10 @@ class Plain:
         return word_at(self._program, self._pc)
 
     def __eq__(self, other):
-        if not isinstance(other, Plain):
-            return False
-        one = (self._pc, self._registers, self._saved, self._allowed, self._ended, self._outputs, self._program)
-        same = (other._pc, other._registers, other._saved, other._allowed, other._ended, other._outputs, other._program)
-        return one == same and self._shape == other._shape and self._memory == other._memory
+        return isinstance(other, Plain) and all_of(self) == all_of(other)
 
     def __str__(self):
-        told = "" if self._ended is None else f", ended: {self._ended[-1]}"
-        return f"machine at {self._pc}, {len(self._outputs)} words put out{told}"
+        return f"machine at {self._pc}, {len(self._outputs)} words put out{end_told(self._ended)}"
 
     def step(self, bell=0):
         """The state behind one step, and behind the bell if it rings and can be taken."""
@@ -174,6 +169,17 @@ class Plain:
             place = going.at
             rang = go_on(self._shape, self._program, going, number in rings)
             yield place, word_at(self._program, place), rang
+
+
+def all_of(plain):
+    """All that makes a state what it is."""
+    return (plain.shape, plain.program, plain.pc, plain.registers, plain.memory, plain.saved, plain.allowed,
+            plain.ended, plain.outputs)
+
+
+def end_told(ended):
+    """What the text of a state tells of its end."""
+    return "" if ended is None else f", ended: {ended[-1]}"
 
 
 def give(shape, going, word, deed):
