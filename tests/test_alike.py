@@ -187,6 +187,9 @@ class PapersTest(unittest.TestCase):
             (word, names, table, nodes, more, joins + (("xor", (2,), 0),)),
             (word, names, table, nodes, more, joins + (("xor", [2, 2], 0),)),
             (word, names, table, nodes, more, joins + (["xor", (2, 2), 0],)),
+            (word, names, table, nodes, more, joins + ((["xor"], (2, 2), 0),)),
+            (word, names, table, nodes, more, ((None, (2, 2), 0),)),
+            ["unlike", {"x": 0, "y": 0}, "o"], ("unlike", {"x": 0, "y": 0}, "o", 0), ("unlike", {"x": 2, "y": 0}, "o"),
             (word, names, table, nodes, more, None), (word, names, table, None, more, joins),
             (word, None, table, nodes, more, joins), (word, names, None, nodes, more, joins), (None, *paper[1:]),
             ("unlike", {"x": 0, "y": 0}, "o"), ("unlike", {"x": 0, "y": 0}, "p"), ("unlike", {"x": 0}, "o"),
@@ -211,6 +214,27 @@ class PapersTest(unittest.TestCase):
                 join = (*paper[5][index][:2], node)
                 value = paper[:5] + (paper[5][:index] + (join,) + paper[5][index + 1:],)
                 self.assertIs(is_alike_paper(one, other, value), value == paper)
+                # Nor may the wrong one stand beside the right one.
+                value = paper[:5] + (tuple(sorted({*paper[5], join})),)
+                self.assertIs(is_alike_paper(one, other, value), value == paper)
+
+    def test_rows_of_inputs_that_are_lacking(self):
+        one = ((X, Y), (("o", 0),))
+        self.assertIs(is_alike_paper(one, one, ("alike", ("x", "y"), ((0, 0, 1), (1, 0, 1)), (2, 3), (2, 3), ())), True)
+        for table, nodes in (((), (0, 1)), (((0, 0, 1),), (2, 1)), (((0, 0, 1), (1, 1, 0)), (2, 3)),
+                             (((0, 1, 0), (1, 0, 1)), (2, 3)), (((1, 0, 1), (0, 0, 1)), (2, 3))):
+            self.assertIs(is_alike_paper(one, one, ("alike", ("x", "y"), table, nodes, nodes, ())), False)
+
+    def test_parting_of_some_outputs(self):
+        one, other = ((X, Y), (("a", 0), ("b", 0), ("c", 1))), ((X, Y), (("c", 1), ("a", 0), ("b", 1)))
+        paper = alike_paper(one, other)
+        self.assertEqual((paper[0], paper[2]), ("unlike", "b"))
+        for bits in itertools.product((0, 1), repeat=2):
+            for name in "abcd":
+                value = ("unlike", dict(zip("xy", bits)), name)
+                self.assertIs(is_alike_paper(one, other, value), name == "b" and bits[0] != bits[1])
+            value = ("unlike", {"x": bits[0], "y": 2}, "b")
+            self.assertIs(is_alike_paper(one, other, value), False)
 
     def test_papers_for_all_sequences_of_names(self):
         source = random_source(5)

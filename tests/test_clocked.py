@@ -350,7 +350,8 @@ class PapersTest(unittest.TestCase):
     def test_errors(self):
         for function in (clocked, lambda one, other: is_clocked_paper(one, other, None)):
             check_refused(self, function, (NET, NET), [(0, InvalidNet, nets_but(NET)), (1, InvalidNet, nets_but(NET))])
-            for other in (LOOSE, (NET[0], ()), (NET[0], (("p", 0),)), (NET[0], (("o", 0), ("p", 0))), shift(2),
+            waking = (tuple(("keep", *cell[1:2], None, cell[3]) if cell[0] == "keep" else cell for cell in NET[0]), NET[1])
+            for other in (LOOSE, waking, (NET[0], ()), (NET[0], (("p", 0),)), (NET[0], (("o", 0), ("p", 0))), shift(2),
                           (NET[0] + (("in", "x"),), NET[1])):
                 expect(self, InvalidOperation, None, function, NET, other)
                 expect(self, InvalidOperation, None, function, other, NET)

@@ -343,9 +343,25 @@ class PapersTest(unittest.TestCase):
                     again, there = plain_beat(other, there, {name: given[name] for name in names_of(other, "in")})
                     self.assertEqual(told, again)
 
+    def test_equal_places(self):
+        # Two cells that do the same, each its own, at one place.
+        net = ((X, Y, ("and", 0, 1), ("and", 0, 1)), (("o", 3),))
+        other = ((Y, X, ("and", 1, 0), ("and", 1, 0)), (("o", 3),))
+        whole = tuple((index, 0) for index in range(4))
+        for first, second in itertools.product((None, 2, 3), repeat=2):
+            value = (whole, (1, 0, first, second))
+            right = first != second and second == 3
+            self.assertIs(is_wire_paper(net, other, value), right)
+            self.assertEqual(is_paper_by_words(net, other, value), right)
+        # The cells at which it looks stand in their sequence.
+        turned = (net[0][:3] + (("and", 1, 0),), net[1])
+        self.assertIs(is_wire_paper(turned, other, (whole, (1, 0, 2, 3))), False)
+        self.assertIs(is_wire_paper(turned, (other[0][:3] + (("and", 0, 1),), net[1]), (whole, (1, 0, 2, 3))), True)
+
     def test_errors(self):
         for value in NETS:
             expect(self, InvalidNet, None, is_wire_paper, value, value, None)
+            expect(self, InvalidNet, None, is_wire_paper, value, self.OTHER, None)
             expect(self, InvalidNet, None, is_wire_paper, self.NET, value, None)
 
 

@@ -10,7 +10,7 @@ from support import check_own_kinds, check_refused, expect, odd_but, random_sour
 from test_machine import WRONG_MEMORIES, WRONG_PROGRAMS, WRONG_SHAPES
 from test_pipe import PUT, SET, STATES, state_with
 from truebeat.core.meaning import drained, is_kept, meaning, rank, square
-from truebeat.core.pipe import first_pipe, is_pipe
+from truebeat.core.pipe import first_pipe, is_long_word, is_pipe, reads_of
 from truebeat.errors import InvalidChoice, InvalidMemory, InvalidProgram, InvalidShape, InvalidState, Refused
 from truebeat.plain.machine import Plain
 from truebeat.plain.shapes import Shape
@@ -270,7 +270,9 @@ class MeaningTest(unittest.TestCase):
             self.assertEqual(rank(BYTE, state_with(BYTE, **told)), right, told)
 
     def test_examples(self):
-        self.assertEqual(rank(SMALL, first_pipe(SMALL)), 8)
+        self.assertEqual(
+            [reads_of(SMALL, PROGRAM[1]), is_long_word(15 << 12 | 4, 0), is_long_word(15 << 12 | 5, 0),
+             rank(SMALL, first_pipe(SMALL))], [(1,), True, False, 8])
         self.assertIs(is_kept(SMALL, first_pipe(SMALL), MEMORY, PROGRAM), True)
         self.assertEqual(meaning(SMALL, first_pipe(SMALL), MEMORY, PROGRAM), Plain(SMALL, PROGRAM))
 
@@ -323,6 +325,7 @@ class KeptTest(unittest.TestCase):
         self.assertTrue(self.kept(**idle, m_kind=0, m_to=0, m_x=0))
         self.assertFalse(self.kept(**idle, m_kind=0, m_to=0, m_x=1))
         self.assertFalse(self.kept(**idle, m_kind=3))
+        self.assertFalse(self.kept(**idle, m_kind=3, m_to=0, m_x=0))
         self.assertTrue(self.kept(**idle, m_kind=1, m_to=0))
         self.assertTrue(self.kept(**idle, w_to=0, w_x=0))
         self.assertFalse(self.kept(**idle, w_to=0, w_x=1))

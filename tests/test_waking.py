@@ -284,7 +284,8 @@ class SettledTest(unittest.TestCase):
         one = ((("keep", "k", 0, 1), ("one",)), ())
         check_judge(self, is_settled_paper, (one, {}), [("settled", 1, {"k": 1})],
                     [("settled", True, {"k": 1}), ("settled", 1, {"k": 0}), ("settled", 1, {"k": True}),
-                     ("settled", 2, {"k": 1}), ("settled", 0, {"k": 1}), ("settled", 1), ("settled", 1, {})])
+                     ("settled", 2, {"k": 1}), ("settled", 0, {"k": 1}), ("settled", 1), ("settled", 1, {}),
+                     ("settled", 1, {"k": 1}, 0), ["settled", 1, {"k": 1}]])
 
     def test_fifteen_keepers(self):
         def idle(many):
