@@ -65,6 +65,11 @@ def are_words(value, widths):
     return all([name in value and is_word_of(widths[name], value[name]) for name in widths])
 
 
+def is_bit_dict(value, names):
+    """Whether the value is a dict from just these names to bits."""
+    return are_words(value, {name: 1 for name in names})
+
+
 def own_value(value):
     """A wrong value as errors keep it: an integer or a string is of Python's own types."""
     if isinstance(value, int) and not isinstance(value, bool):

@@ -1,8 +1,9 @@
 """The names of states and wires of machines, with their bits, and the checks of what they have."""
 
-from truebeat.base.checks import are_words, is_between, is_bit, is_tuple_of
+from truebeat.base.checks import are_words, is_bit, is_tuple_of
 from truebeat.core.drawing import number_bits
 from truebeat.errors import InvalidChoice, InvalidState
+from truebeat.plain.shapes import is_shape_word
 
 WORD_BITS = 16
 
@@ -44,11 +45,6 @@ def check_bit_choice(value):
     """Refuse what is no bit."""
     if not is_bit(value):
         raise InvalidChoice("this is no bit")
-
-
-def is_shape_word(shape, value):
-    """Whether the value is a word of the shape."""
-    return is_between(value, 0, (1 << shape.width) - 1)
 
 
 def check_choice(shape, choice):

@@ -1,12 +1,13 @@
 """What the states of the pipe mean on the plain machine, and which of them are kept."""
 
 from truebeat.base.checks import is_bit, is_tuple_of, plainly_made
-from truebeat.core.fields import held_in, is_shape_word, register_names
-from truebeat.core.pipe import DECODED, LONG, WORKED, beat_behind, check_pipe, is_long
+from truebeat.core.fields import held_in, register_names
+from truebeat.core.pipe import DECODED, LONG, WORKED, beat_behind, check_pipe, is_long, long_name
 from truebeat.errors import InvalidChoice, Refused
+from truebeat.parts.long import reached_words
 from truebeat.plain.deeds import ENDS, LOAD, STORE, put_word, values_read
 from truebeat.plain.machine import Plain, with_memory
-from truebeat.plain.shapes import check_memory, check_program, fields, is_long_kind, word_at
+from truebeat.plain.shapes import check_memory, check_program, fields, is_long_kind, is_shape_word, word_at
 
 
 def check_meant(shape, state, memory, program):
@@ -84,12 +85,8 @@ def is_long_kept(shape, state):
     left, one, two = state["u_left"], state["x_one"], state["x_two"]
     if state["x_on"] == 0 or not is_long(state["x_word"], two) or left > shape.width:
         return False
-    done, fit = shape.width - left, 1 << shape.width
-    if fields(state["x_word"])[3] == 4:
-        right = one * (two >> left), two << done
-    else:
-        right = (one >> left) % two, (one << done) + (one >> left) // two
-    return (state["u_one"], state["u_two"]) == (right[0] % fit, right[1] % fit)
+    kind = long_name(fields(state["x_word"])[3])
+    return (state["u_one"], state["u_two"]) == reached_words(shape.width, kind, one, two, left)
 
 
 def is_kept_state(shape, state, memory, program):

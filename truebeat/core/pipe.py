@@ -3,6 +3,7 @@
 from truebeat.base.checks import are_words, plainly_made
 from truebeat.base.words import check_word
 from truebeat.core.fields import WORD_BITS, check_bit_choice, check_choice, check_fields, pipe_widths
+from truebeat.parts.long import KINDS, round_behind
 from truebeat.plain.deeds import LOAD, STORE, deed_of, reads_found
 from truebeat.plain.machine import BELL_PLACE
 from truebeat.plain.shapes import check_shape, check_step_word, fields, given_by, is_long_kind
@@ -52,6 +53,11 @@ def is_long_word(word, two):
     return is_long(word, two)
 
 
+def long_name(c):
+    """What long parts call the kind of a long step."""
+    return KINDS[c - 4]
+
+
 def ask_of(state):
     """What a pipe in this state asks, or `None`."""
     if state["m_kind"] == LOAD:
@@ -91,14 +97,9 @@ def long_behind(shape, ahead):
         return 1, shape.width, 0, ahead["x_two"] if c == 4 else ahead["x_one"]
     if ahead["u_left"] == 0:
         return None
-    top = ahead["u_two"] >> (shape.width - 1)
-    one, two = 2 * ahead["u_one"] + top, 2 * ahead["u_two"]
-    if c == 4:
-        one = 2 * ahead["u_one"] + top * ahead["x_one"]
-    elif one >= ahead["x_two"]:
-        one, two = one - ahead["x_two"], two + 1
-    fit = 1 << shape.width
-    return 1, ahead["u_left"] - 1, one % fit, two % fit
+    state = (long_name(c), ahead["x_one"], ahead["x_two"], ahead["u_left"], ahead["u_one"], ahead["u_two"])
+    _, _, _, left, one, two = round_behind(shape.width, state)
+    return 1, left, one, two
 
 
 def deed_in_work(shape, ahead):

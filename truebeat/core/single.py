@@ -3,13 +3,13 @@
 from truebeat.base.checks import plainly_made
 from truebeat.core.drawing import Drawing, both, draw, draw_deed, draw_fields, draw_keepers, draw_ports, draw_reads
 from truebeat.core.drawing import draw_word_of, either, feed_keepers, number_bits, only, pick, sheet_of, told, turned
-from truebeat.core.fields import WORD_BITS, check_bit_choice, check_fields, held_in, is_shape_word, register_names
+from truebeat.core.fields import WORD_BITS, check_bit_choice, check_fields, held_in, register_names
 from truebeat.core.fields import single_widths
 from truebeat.errors import InvalidInputs, InvalidState
 from truebeat.nets.net import check_net
 from truebeat.plain.deeds import ENDS, LOAD, STORE, deed_of, values_read
 from truebeat.plain.machine import BELL_PLACE, Plain
-from truebeat.plain.shapes import check_memory, check_program, check_shape, check_step_word, given_by
+from truebeat.plain.shapes import check_memory, check_program, check_shape, check_step_word, given_by, is_shape_word
 from truebeat.sheets.lay import bit_fault, check_bit_names, lay
 
 WIRES = ("ask", "done", "ended", "fetch", "give", "place", "put", "put_word", "rang")

@@ -1,11 +1,11 @@
 """Still nets that are alike, or not, with papers that a small function judges."""
 
-from truebeat.base.checks import are_words, is_index, is_tuple_of, plainly_made
+from truebeat.base.checks import is_bit_dict, is_index, is_tuple_of, plainly_made
 from truebeat.errors import InvalidOperation, TooMany
 from truebeat.judge.fillings import bits_of_number, filling_of, functions_of, lowest_one
 from truebeat.judge.joins import Joining, are_joins, do_stand, joined_node, joined_word, need_joins_of
 from truebeat.judge.tables import MAX_ASKED, Growing, are_names, asks_of, check_still, is_table_for, nodes_grown
-from truebeat.nets.net import names_in
+from truebeat.nets.net import names_in, output_names
 from truebeat.nets.walk import values_found
 
 
@@ -13,7 +13,7 @@ def check_still_pair(one, other):
     """Refuse what is no still net, then two with unlike names of outputs."""
     check_still(one)
     check_still(other)
-    if sorted([name for name, _ in one[1]]) != sorted([name for name, _ in other[1]]):
+    if output_names(one) != output_names(other):
         raise InvalidOperation("the nets have outputs with other names")
 
 
@@ -108,7 +108,7 @@ def is_likeness(one, other, value):
 def is_parting(one, other, filling, name):
     """Whether a filling parts the outputs with a name."""
     names = names_of_both(one, other)
-    if not isinstance(name, str) or not are_words(filling, {asked: 1 for asked in names}):
+    if not isinstance(name, str) or not is_bit_dict(filling, names):
         return False
     ones, others = values_found(one[0], 1, {}, filling), values_found(other[0], 1, {}, filling)
     return any([ones[index] != others[at] for told, index, at in pairs_of_outputs(one, other) if told == name])

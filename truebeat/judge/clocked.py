@@ -5,7 +5,7 @@ from truebeat.errors import InvalidInputs, InvalidOperation, InvalidState, TooMa
 from truebeat.judge.fillings import bits_of_number, number_of_bits
 from truebeat.judge.lots import lots_of
 from truebeat.judge.moves import Moves, first_bits, input_names, keeper_names, letters_told, run_of_bits, state_told
-from truebeat.nets.net import check_net
+from truebeat.nets.net import check_net, output_names
 
 MAX_INPUTS = 6
 MAX_LETTERS = 16
@@ -42,7 +42,7 @@ def check_clocked_pair(one, other):
     check_begun(other)
     if input_names(one) != input_names(other):
         raise InvalidOperation("the nets have inputs with other names")
-    if sorted([name for name, _ in one[1]]) != sorted([name for name, _ in other[1]]):
+    if output_names(one) != output_names(other):
         raise InvalidOperation("the nets have outputs with other names")
     check_letters(len(input_names(one)), len(keeper_names(one)) + len(keeper_names(other)))
 

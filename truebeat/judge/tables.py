@@ -1,6 +1,6 @@
 """Tables of decisions: the cells of still nets, told by rows that ask one name each."""
 
-from truebeat.base.checks import are_unlike, are_words, is_index, is_integer, is_name, is_pair, is_tuple_of
+from truebeat.base.checks import are_unlike, is_bit_dict, is_index, is_integer, is_name, is_pair, is_tuple_of
 from truebeat.base.checks import plainly_made
 from truebeat.base.words import check_number
 from truebeat.errors import InvalidInputs, InvalidNet, InvalidOperation, InvalidPaper, TooMany
@@ -73,7 +73,7 @@ def check_table(names, table, node):
 def table_value(names, table, node, filling):
     """The value of a node at a filling."""
     check_table(names, table, node)
-    if not are_words(filling, {name: 1 for name in names}):
+    if not is_bit_dict(filling, names):
         raise InvalidInputs("this is no filling of the names")
     while node > 1:
         at, low, high = table[node - 2]

@@ -1,6 +1,6 @@
 """Keepers that wake as anything: what is known of them behind some beats."""
 
-from truebeat.base.checks import are_words, is_bit, is_integer, is_pair, is_tuple_of, own_value, plainly_made
+from truebeat.base.checks import is_bit, is_bit_dict, is_integer, is_pair, is_tuple_of, own_value, plainly_made
 from truebeat.errors import InvalidInputs, InvalidState, TooMany, UnknownName
 from truebeat.judge.fillings import filling_of, lowest_one, number_of_bits, numbers_at_all, patterns
 from truebeat.nets.net import LOOKS, check_net, names_in
@@ -172,11 +172,6 @@ def unlike_wakings(net, rows, name):
         return None
     numbers = (lowest_one(every ^ value), lowest_one(value))
     return plainly_made(tuple([run_told(net, rows, letters, number) for number in numbers]))
-
-
-def is_bit_dict(value, names):
-    """Whether the value is a dict from just these names to bits."""
-    return are_words(value, {name: 1 for name in names})
 
 
 def is_told_run(net, rows, value):

@@ -47,6 +47,11 @@ def is_lot(value):
     return len(inputs) <= MAX_NAMED and len(keepers) <= MAX_NAMED and are_unlike(inputs + keepers)
 
 
+def output_names(net):
+    """The names of the outputs of a net, ascending."""
+    return sorted([name for name, _ in net[1]])
+
+
 def is_output(value, many):
     """Whether the value is a pair of a name and of an index of so many."""
     return is_pair(value) and is_name(value[0]) and is_index(value[1], many)

@@ -1,5 +1,6 @@
 """What single steps do, by the two values that they read: the same for each machine that does them."""
 
+from truebeat.base.words import signed
 from truebeat.plain.shapes import fields, is_long_kind
 
 ENDS = (None, ("end",), ("fault", "word"), ("fault", "divide"))
@@ -34,14 +35,9 @@ def values_read(shape, word, held):
     return values[0], values[1]
 
 
-def signed_number(bits, word):
-    """The signed number of a word of so many bits."""
-    return word - ((word >> (bits - 1)) << bits)
-
-
 def near_number(word):
     """The signed number of the six lowest bits."""
-    return signed_number(NEAR_BITS, word & 63)
+    return signed(NEAR_BITS, word & 63)
 
 
 class Deed:
@@ -65,7 +61,7 @@ class Deed:
 def reckoned(width, op, word, one, two):
     """What a step with an op up to 9 gives, not cut to the width."""
     if op == 5:
-        return 1 if signed_number(width, one) < signed_number(width, two) else 0
+        return 1 if signed(width, one) < signed(width, two) else 0
     if op == 6:
         return one << two % 16
     if op == 7:
@@ -73,7 +69,7 @@ def reckoned(width, op, word, one, two):
     if op == 8:
         return one + near_number(word)
     if op == 9:
-        return signed_number(FAR_BITS, word & 511)
+        return signed(FAR_BITS, word & 511)
     return (one + two, one - two, one & two, one | two, one ^ two)[op]
 
 
@@ -106,7 +102,7 @@ def do_special(deed, width, c, values, saved):
 
 def is_taken(width, op, one, two):
     """Whether a branch with the op 12 or 13 is taken."""
-    return one == two if op == 12 else signed_number(width, one) < signed_number(width, two)
+    return one == two if op == 12 else signed(width, one) < signed(width, two)
 
 
 def deed_of(width, word, values, pc, saved):

@@ -1,18 +1,13 @@
 """The plain machine, which does one step after the other."""
 
-from truebeat.base.checks import is_ascending, is_between, is_bit, is_integer, is_tuple_of, plainly_made
+from truebeat.base.checks import is_ascending, is_bit, is_integer, is_tuple_of, plainly_made
 from truebeat.base.words import check_number
 from truebeat.errors import InvalidChoice, InvalidOperation, InvalidState, Refused
 from truebeat.plain.deeds import ENDS, LOAD, STORE, deed_of, put_word, values_read
-from truebeat.plain.shapes import check_memory, check_program, check_shape, given_by, word_at
+from truebeat.plain.shapes import check_memory, check_program, check_shape, given_by, is_shape_word, word_at
 
 BELL_PLACE = 1
 MOST_STEPS = 3000
-
-
-def is_word_for(shape, value):
-    """Whether the value is a word of the shape."""
-    return is_between(value, 0, (1 << shape.width) - 1)
 
 
 def check_state(holds, name):
@@ -25,7 +20,7 @@ def are_registers(shape, value):
     """Whether the value is the words of all registers."""
     if not is_tuple_of(value, shape.registers, shape.registers):
         return False
-    return all([is_word_for(shape, word) for word in value]) and value[0] == 0
+    return all([is_shape_word(shape, word) for word in value]) and value[0] == 0
 
 
 def check_bells(bells):
@@ -62,14 +57,14 @@ class Plain:
                  outputs=()):
         check_shape(shape)
         check_program(program)
-        check_state(is_word_for(shape, pc), "place")
+        check_state(is_shape_word(shape, pc), "place")
         check_state(registers is None or are_registers(shape, registers), "row of registers")
         if memory is not None:
             check_memory(shape, memory)
-        check_state(is_word_for(shape, saved), "saved place")
+        check_state(is_shape_word(shape, saved), "saved place")
         check_state(isinstance(allowed, bool), "boolean")
         check_state(ended is None or (isinstance(ended, tuple) and ended in ENDS), "end")
-        words = isinstance(outputs, tuple) and all([is_word_for(shape, word) for word in outputs])
+        words = isinstance(outputs, tuple) and all([is_shape_word(shape, word) for word in outputs])
         check_state(words, "row of outputs")
         self._shape = shape
         self._program = plainly_made(program)

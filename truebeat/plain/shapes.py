@@ -1,6 +1,6 @@
 """Shapes of machines, and the fields of step words."""
 
-from truebeat.base.checks import is_between, is_integer, is_tuple_of
+from truebeat.base.checks import is_between, is_integer, is_tuple_of, is_word_of
 from truebeat.base.words import check_number
 from truebeat.errors import InvalidMemory, InvalidProgram, InvalidShape
 
@@ -46,6 +46,11 @@ def check_shape(shape):
         raise InvalidShape("this is no shape")
 
 
+def is_shape_word(shape, value):
+    """Whether the value is a word of the shape."""
+    return is_word_of(shape.width, value)
+
+
 def check_step_word(word):
     """Refuse what is no step word."""
     check_number(word, 0, NO_WORD)
@@ -59,10 +64,10 @@ def check_program(program):
 
 def check_memory(shape, memory):
     """Refuse what is no memory of the shape, or one with too many places."""
-    top = (1 << shape.width) - 1
     if not isinstance(memory, dict) or len(memory) > MOST_PLACES:
         raise InvalidMemory("this is no memory, or it has too many places")
-    if not all([is_between(place, 0, top) and is_between(memory[place], 1, top) for place in memory]):
+    words = [is_shape_word(shape, place) and is_shape_word(shape, memory[place]) for place in memory]
+    if not all(words) or not all([memory[place] > 0 for place in memory]):
         raise InvalidMemory("a place or a word of this memory is none")
 
 
