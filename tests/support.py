@@ -4,10 +4,15 @@ import copy
 import random
 
 from truebeat import errors
+from truebeat.near.lines import Near
 from truebeat.plain.machine import Plain
 from truebeat.plain.shapes import Shape
 
 PLAIN = Plain(Shape(4, 2), (0,))
+PROPERTIES = {
+    Shape: ("width", "registers"), Near: ("width", "sets", "lines", "turn"),
+    Plain: ("shape", "program", "pc", "registers", "memory", "saved", "allowed", "ended", "outputs", "word"),
+}
 DEEP = (((((((1,),),),),),),)
 ODD = (
     None, True, False, -1, -7, 10 ** 59 * 99, -(10 ** 60), 10 ** 219, "", "x", "not", "tab\tand\nline", "y" * 20000,
@@ -21,10 +26,17 @@ KEPT = {
 }
 
 
+def told_by(value):
+    """What the properties of an object tell."""
+    return tuple(getattr(value, name) for name in PROPERTIES[type(value)])
+
+
 def alike(one, other):
     """Whether two values are equal and of equal kinds, all the way down."""
     if type(one) is not type(other):
         return False
+    if type(one) in PROPERTIES:
+        return alike(told_by(one), told_by(other)) and one == other
     if isinstance(one, (tuple, list)):
         return len(one) == len(other) and all(alike(a, b) for a, b in zip(one, other))
     if isinstance(one, dict):
@@ -103,7 +115,9 @@ def check_judge(test, function, ahead, rights, wrongs):
 
 
 def check_own_kinds(test, value):
-    """Check that a value is built from Python's own types, its dicts with ascending keys."""
+    """Check that a value is built from Python's own types, its dicts with ascending keys, also within objects."""
+    if type(value) in PROPERTIES:
+        value = (str(value), told_by(value))
     test.assertIn(type(value), (int, bool, str, tuple, dict, type(None)), value)
     if isinstance(value, tuple):
         for member in value:

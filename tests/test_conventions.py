@@ -9,14 +9,16 @@ from sheets_made import COUNT, every_kind
 from support import alike, check_own_kinds, error_of, random_source
 from test_net import HALF, TURNING, some_lot
 from truebeat.base import words
-from truebeat.core import gates, meaning, pipe, single
+from truebeat.core import counts, gates, meaning, pipe, single
 from truebeat.errors import Refused
 from truebeat.judge import alike as judge, clocked, lesser, tables, waking
+from truebeat.near import alike as near_alike, lines, misses
 from truebeat.nets import net, walk
 from truebeat.parts import adders, long, products, shifts
 from truebeat.plain import shapes
 from truebeat.plain.machine import Plain
 from truebeat.sheets import lay, sheet
+from truebeat.text import steps
 
 LOOSE = (("and", 3, 3), ("not", 0), ("one",), ("in", "a"), ("keep", "k", None, 0))
 RING = (("not", 1), ("or", 2, 0), ("one",))
@@ -38,6 +40,11 @@ SINGLE = {"pc": 1, "r1": 7, "saved": 0, "allowed": 1, "ended": 0}
 PIPE = {**some_pipe(random_source(4), SHAPE), "m_kind": 2, "m_x": 3, "m_y": 4, "ended": 0}
 WAITING = {**pipe.first_pipe(SHAPE), "m_kind": 2, "m_x": 3, "m_y": 4}
 MEMORY, CHOICE = {9: 1, 2: 3}, (3, 1, 9, 0)
+NEAR = lines.Near(4, 2, ((True, 2, True, 7, 0), (False, 0, True, 1, 1), (True, 1, False, 3, 0), (True, 3, False, 0, 0)))
+BACK = lines.Near(4, 2, NEAR.lines, ("back", 0, 0, 4))
+SWAPPED = lines.Near(4, 2, NEAR.lines[:2] + NEAR.lines[:1:-1])
+ASKS, ROW = (("read", 4), ("write", 8, 3), ("read", 11)), ((1, 0), (1, 1)) * 4
+RUN = (SHAPE, (37379, 61953, 43010, 61440), MEMORY)
 CALLS = (
     (words.is_word, 4, 3), (words.bits_of_word, 4, 6), (words.word_of_bits, (0, 1)), (words.wrapped, 4, 3),
     (words.signed, 4, 3), (words.carries, 4, 6, 3), (words.added, 4, 6, 0), (words.lessened, 4, 6, 0),
@@ -99,6 +106,15 @@ CALLS = (
     (gates.has_core_names, SHAPE, gates.core_net(SHAPE)),
     (gates.net_beat, SHAPE, gates.core_net(SHAPE), PIPE, 37887, CHOICE),
     (gates.beat_fault, SHAPE, gates.core_net(SHAPE), PIPE, 37887, CHOICE),
+    (lines.is_kept_near, NEAR, MEMORY), (lines.near_words, NEAR, MEMORY), (lines.near_beat, NEAR, MEMORY, ASKS[1], (1, 0)),
+    (lines.near_beat, BACK, MEMORY, None, (1, 0)), (lines.near_beat, NEAR, MEMORY, ASKS[0], (0, 0)),
+    (lines.near_beat, NEAR, MEMORY, ("write", 4, 9), (0, 0)), (lines.near_run, NEAR, MEMORY, ASKS, ROW),
+    (lines.near_run, BACK, MEMORY, ASKS, ROW[:3]), (lines.cleaned, NEAR, MEMORY), (misses.misses, NEAR, ASKS, (0, 1)),
+    (misses.best_victims, NEAR, ASKS), (near_alike.parting_asks, NEAR, SWAPPED), (near_alike.parting_asks, NEAR, NEAR),
+    (near_alike.is_parting, NEAR, SWAPPED, near_alike.parting_asks(NEAR, SWAPPED)),
+    (counts.record, *RUN, ((1, 1, 0), (2, 1, 0), (3, 1, 1), (3, 0, 0)) * 3), (counts.counted, *RUN, ((1, 0, 0), (0, 0, 0), (1, 0, 3))),
+    (counts.choices_for, *RUN, ((1, 0, 0), (0, 0, 0), (1, 0, 3))), (counts.fewest_beats, *RUN, 3), (counts.most_beats, *RUN, 3, 2),
+    (steps.write_step, 37887), (steps.read_step, "set 1 -1"),
 )
 
 
@@ -146,17 +162,17 @@ class ConventionsTest(unittest.TestCase):
     def test_own_types_in_objects(self):
         told = {"pc": 3, "registers": (0, 7), "memory": MEMORY, "saved": 4, "ended": ("fault", "word"), "outputs": (1, 2)}
         plain = Plain(derived(SHAPE), derived((5, 6)), allowed=True, **{name: derived(told[name]) for name in told})
-        self.check_plain(plain)
-        self.check_plain(meaning.meaning(SHAPE, derived(PIPE), derived(MEMORY), derived((5, 6))))
-        self.check_plain(single.plain_of(SHAPE, derived(SINGLE), derived((5, 6)), derived(MEMORY)))
+        check_own_kinds(self, plain)
+        check_own_kinds(self, meaning.meaning(SHAPE, derived(PIPE), derived(MEMORY), derived((5, 6))))
+        check_own_kinds(self, single.plain_of(SHAPE, derived(SINGLE), derived((5, 6)), derived(MEMORY)))
         running = Plain(SHAPE, derived((37379, 61953, 61440)), memory=derived(MEMORY))
-        self.check_plain(running.step(Whole(1)).run(Whole(5), derived((1, 2))))
+        check_own_kinds(self, running.step(Whole(1)).run(Whole(5), derived((1, 2))))
         check_own_kinds(self, tuple(running.trace(Whole(5), derived((1, 2)))))
-
-    def check_plain(self, plain):
-        names = ("program", "pc", "registers", "memory", "saved", "allowed", "ended", "outputs", "word")
-        check_own_kinds(self, tuple(getattr(plain, name) for name in names))
-        check_own_kinds(self, (str(plain), plain.shape.width, plain.shape.registers))
+        near = lines.Near(Whole(4), Whole(2), derived(NEAR.lines), derived(BACK.turn))
+        check_own_kinds(self, near)
+        for ask, choice in ((ASKS[0], (1, 0)), (None, (1, 1)), (None, (1, 1))):
+            near, memory, answer = lines.near_beat(near, derived(MEMORY), derived(ask), derived(choice))
+            check_own_kinds(self, (near, memory, answer))
 
     def test_own_types_of_what_errors_keep(self):
         for function, args, name, right in (
@@ -164,7 +180,9 @@ class ConventionsTest(unittest.TestCase):
                 (adders.plan_of, (Text("column"), 3), "asked", "column"), (shapes.fields_of, (Whole(-1),), "given", -1),
                 (waking.unlike_wakings, (BOTH, ROWS, Text("m")), "asked", "m"), (pipe.is_long_word, (0, Whole(65536)),
                                                                               "given", 65536),
-                (shifts.plain_rounds, (True,), "given", True), (shifts.plain_rounds, ([1],), "given", [1])):
+                (shifts.plain_rounds, (True,), "given", True), (shifts.plain_rounds, ([1],), "given", [1]),
+                (lines.Near, (Whole(3), 1), "given", 3), (lines.Near, (Whole(4), Whole(3)), "given", 3),
+                (steps.write_step, (Whole(-1),), "given", -1), (counts.fewest_beats, (*RUN, Whole(0)), "given", 0)):
             self.assertTrue(alike(getattr(error_of(function, *args), name), right), function.__name__)
 
     def test_arguments_stay(self):

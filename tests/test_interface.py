@@ -69,6 +69,16 @@ INTERFACE = {
     "truebeat.core.gates": (
         "core_ports(shape)", "core_sheet(shape)", "core_net(shape)", "has_core_names(shape, value)",
         "net_beat(shape, net, state, word, choice, *, reset=0)", "beat_fault(shape, net, state, word, choice, *, reset=0)"),
+    "truebeat.near.lines": (
+        "is_kept_near(near, memory)", "near_words(near, memory)", "near_beat(near, memory, ask, choice)",
+        "near_run(near, memory, asks, choices)", "cleaned(near, memory)"),
+    "truebeat.near.misses": ("misses(near, asks, victims)", "best_victims(near, asks)"),
+    "truebeat.near.alike": ("parting_asks(one, other)", "is_parting(one, other, value)"),
+    "truebeat.core.counts": (
+        "record(shape, program, memory, choices)", "counted(shape, program, memory, told)",
+        "choices_for(shape, program, memory, told)", "fewest_beats(shape, program, memory, steps)",
+        "most_beats(shape, program, memory, steps, wait)"),
+    "truebeat.text.steps": ("write_step(word)", "read_step(text)"),
 }
 CLASSES = {
     "truebeat.plain.shapes": {"Shape(width, registers)": ("width", "registers")},
@@ -76,6 +86,7 @@ CLASSES = {
         "Plain(shape, program, *, pc=0, registers=None, memory=None, saved=0, allowed=False, ended=None, outputs=())": (
             "shape", "program", "pc", "registers", "memory", "saved", "allowed", "ended", "outputs", "word", "step(bell=0)",
             "run(steps, bells=())", "trace(steps, bells=())")},
+    "truebeat.near.lines": {"Near(width, sets, lines=None, turn=None)": ("width", "sets", "lines", "turn")},
 }
 
 

@@ -30,7 +30,7 @@ WORDS = re.compile(
     r"NamedTuple|TypedDict|TYPE_CHECKING|abstractmethod)\b|dataclass|overload|contextmanager|_wall|_WallAttr")
 STATEMENTS = (
     ast.Expr, ast.Assign, ast.AugAssign, ast.If, ast.While, ast.For, ast.Return, ast.Break, ast.Continue, ast.Pass,
-    ast.Raise, ast.FunctionDef, ast.ClassDef, ast.ImportFrom, ast.Delete)
+    ast.Raise, ast.FunctionDef, ast.ClassDef, ast.ImportFrom, ast.Delete, ast.Try)
 EXPRESSIONS = (
     ast.Constant, ast.Name, ast.Attribute, ast.Subscript, ast.Slice, ast.Call, ast.BinOp, ast.UnaryOp, ast.BoolOp,
     ast.Compare, ast.IfExp, ast.Tuple, ast.List, ast.Dict, ast.ListComp, ast.DictComp, ast.Starred, ast.JoinedStr,
@@ -161,7 +161,51 @@ class FilesTest(unittest.TestCase):
                     self.assertEqual([arg.arg for arg in node.args.args], ["self"], (path, node.name))
                 if node.name.startswith("__"):
                     self.assertIn(node, methods, path)
-                    self.assertIn(node.name, ("__init__", "__eq__", "__str__"), path)
+                    self.assertIn(node.name, ("__init__", "__eq__", "__str__", "__len__", "__contains__"), path)
+
+    def test_double_underscore_methods_only_return(self):
+        for path, tree in parsed().items():
+            for node in ast.walk(tree):
+                if isinstance(node, ast.FunctionDef) and node.name.startswith("__") and node.name != "__init__":
+                    self.assertEqual([type(row) for row in node.body], [ast.Return], (path, node.name))
+                    value = node.body[0].value
+                    if node.name == "__len__":
+                        self.assertEqual((type(value), value.func.id), (ast.Call, "len"), path)
+                    if node.name == "__str__":
+                        self.assertIsInstance(value, ast.JoinedStr, path)
+
+    def test_names_of_members(self):
+        """No name is that of a method, a property and an attribute, or of a generator and of something else."""
+        trees = list(parsed().values())
+        methods, properties, attributes, functions = set(), set(), set(), []
+        for tree in trees:
+            for node in ast.walk(tree):
+                if isinstance(node, ast.ClassDef):
+                    for inner in node.body:
+                        if isinstance(inner, ast.FunctionDef) and not inner.name.startswith("__"):
+                            (properties if inner.decorator_list else methods).add(inner.name)
+                if isinstance(node, ast.Attribute) and isinstance(node.ctx, ast.Store):
+                    attributes.add(node.attr)
+                if isinstance(node, ast.FunctionDef):
+                    functions.append(node)
+        self.assertFalse(methods & properties | methods & attributes | properties & attributes)
+        self.assertFalse((methods | properties | attributes) & (METHODS - {"count", "index", "find"}))
+        for node in functions:
+            if any(isinstance(inner, ast.Yield) for inner in ast.walk(node)):
+                self.assertEqual([other.name for other in functions].count(node.name), 1, node.name)
+
+    def test_only_own_errors_are_caught(self):
+        own = set(bound_names(ast.parse(text_of(os.path.join(PACKAGE, "errors.py")))))
+        for path, tree in parsed().items():
+            for node in ast.walk(tree):
+                if isinstance(node, ast.ExceptHandler):
+                    caught = node.type.elts if isinstance(node.type, ast.Tuple) else [node.type]
+                    self.assertTrue({word.id for word in caught} <= own, (path, node.lineno))
+                    self.assertIsNone(node.name, (path, node.lineno))
+                if isinstance(node, ast.Try):
+                    self.assertFalse(node.finalbody or node.orelse, (path, node.lineno))
+                if isinstance(node, ast.Raise):
+                    self.assertTrue(isinstance(node.exc, ast.Call) and node.exc.func.id in own and node.cause is None)
 
     def test_attributes_are_no_properties(self):
         """No attribute has the name of a property, which could not be assigned."""
@@ -295,7 +339,7 @@ class RowsTest(unittest.TestCase):
                 name = node.func.attr if isinstance(node.func, ast.Attribute) else node.func.id
                 if isinstance(node.func, ast.Attribute):
                     self.assertIn(name, methods, (path, node.lineno))
-                    self.assertEqual(node.keywords, [], (path, node.lineno))
+                    self.assertFalse(node.keywords and name in METHODS, (path, node.lineno))
                 if name in BUILTINS:
                     allowed = {"max": {"default"}, "min": {"default"}, "sorted": {"reverse"}}.get(name, set())
                     self.assertTrue({word.arg for word in node.keywords} <= allowed, (path, node.lineno))

@@ -26,8 +26,8 @@ def single_widths(shape):
 
 def pipe_widths(shape):
     """The names of a pipe state, with their bits."""
-    words = [f"{letter}_pc" for letter in "dx"] + [f"{letter}_next" for letter in "dx"]
-    words += [f"{letter}_{word}" for letter in "xu" for word in ("one", "two")] + ["m_x", "m_y", "w_x"]
+    words = [f"{letter}_{word}" for letter in "dx" for word in ("pc", "next")]
+    words = words + [f"{letter}_{word}" for letter in "xu" for word in ("one", "two")] + ["m_x", "m_y", "w_x"]
     low = number_bits(shape)
     return ascending({
         **single_widths(shape), **{name: shape.width for name in words}, "d_on": 1, "x_on": 1, "u_on": 1,

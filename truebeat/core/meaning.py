@@ -13,7 +13,7 @@ from truebeat.plain.shapes import check_memory, check_program, fields, is_long_k
 def check_meant(shape, state, memory, program):
     """Refuse, in this sequence, a wrong shape, state, memory and program."""
     check_pipe(shape, state)
-    check_memory(shape, memory)
+    check_memory(shape.width, memory)
     check_program(program)
 
 
@@ -35,18 +35,18 @@ def memory_meant(state, memory):
     return plainly_made(found)
 
 
-def meant(shape, state, memory, program):
-    """The meaning of a pipe state."""
+def meant(shape, state, memory, program, outputs):
+    """The meaning of a pipe state, with words that were put out."""
     place = state["x_pc"] if state["x_on"] == 1 else state["d_pc"] if state["d_on"] == 1 else state["pc"]
     found = Plain(shape, program, pc=place, registers=tuple(registers_meant(shape, state, memory)),
-                  saved=state["saved"], allowed=state["allowed"] == 1, ended=ENDS[state["ended"]])
+                  saved=state["saved"], allowed=state["allowed"] == 1, ended=ENDS[state["ended"]], outputs=outputs)
     return with_memory(found, memory_meant(state, memory))
 
 
 def meaning(shape, state, memory, program):
     """The meaning of a pipe state, a memory and a program."""
     check_meant(shape, state, memory, program)
-    return meant(shape, state, memory, program)
+    return meant(shape, state, memory, program, ())
 
 
 def are_zero(state, names):
@@ -128,19 +128,16 @@ def rank(shape, state):
 def drained(shape, state, memory):
     """The state and the memory once write and memory are empty, if no other place did anything."""
     check_pipe(shape, state)
-    check_memory(shape, memory)
+    check_memory(shape.width, memory)
     held = registers_meant(shape, state, memory)
     empty = {name: 0 for name in ("m_kind", "m_to", "m_x", "m_y", "w_to", "w_x")}
     registers = {name: word for name, word in zip(register_names(shape), held[1:])}
     return plainly_made({**state, **registers, **empty}), memory_meant(state, memory)
 
 
-def check_square_choice(shape, choice):
-    """Refuse what is no guess, ready and bell."""
-    if not is_tuple_of(choice, 3, 3) or not is_shape_word(shape, choice[0]):
-        raise InvalidChoice("this is no choice")
-    if not is_bit(choice[1]) or not is_bit(choice[2]):
-        raise InvalidChoice("this is no choice")
+def is_square_choice(shape, value):
+    """Whether the value is a guess, ready and bell."""
+    return is_tuple_of(value, 3, 3) and is_shape_word(shape, value[0]) and is_bit(value[1]) and is_bit(value[2])
 
 
 def word_of_beat(state, wires, ready):
@@ -155,7 +152,8 @@ def word_of_beat(state, wires, ready):
 def square(shape, state, memory, program, choice):
     """What one beat from a kept state is, and the state and the memory behind it."""
     check_meant(shape, state, memory, program)
-    check_square_choice(shape, choice)
+    if not is_square_choice(shape, choice):
+        raise InvalidChoice("this is no choice")
     if not is_kept_state(shape, state, memory, program):
         raise Refused(("kept",))
     guess, ready, bell = choice

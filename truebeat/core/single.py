@@ -88,7 +88,7 @@ def plain_of(shape, state, program, memory):
     check_shape(shape)
     check_fields(single_widths(shape), state)
     check_program(program)
-    check_memory(shape, memory)
+    check_memory(shape.width, memory)
     return Plain(shape, program, pc=state["pc"], registers=tuple(held_in(shape, state)), memory=memory,
                  saved=state["saved"], allowed=state["allowed"] == 1, ended=ENDS[state["ended"]])
 

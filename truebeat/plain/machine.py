@@ -44,7 +44,7 @@ class Going:
         self.at = plain.pc
         self.held = list(plain.registers)
         self.store = plain.memory
-        self.back = plain.saved
+        self.home = plain.saved
         self.allows = plain.allowed
         self.over = plain.ended
         self.shown = list(plain.outputs)
@@ -60,7 +60,7 @@ class Plain:
         check_state(is_shape_word(shape, pc), "place")
         check_state(registers is None or are_registers(shape, registers), "row of registers")
         if memory is not None:
-            check_memory(shape, memory)
+            check_memory(shape.width, memory)
         check_state(is_shape_word(shape, saved), "saved place")
         check_state(isinstance(allowed, bool), "boolean")
         check_state(ended is None or (isinstance(ended, tuple) and ended in ENDS), "end")
@@ -189,7 +189,7 @@ def go_on(shape, program, going, rings):
     """Do one step, and take the bell if it rings and can be taken; whether it was taken."""
     word = word_at(program, going.at)
     values = values_read(shape, word, going.held)
-    deed = deed_of(shape.width, word, values, going.at, going.back)
+    deed = deed_of(shape.width, word, values, going.at, going.home)
     if deed.code > 0:
         going.over = ENDS[deed.code]
         return False
@@ -203,7 +203,7 @@ def go_on(shape, program, going, rings):
     going.at = deed.further
     if not rings or not going.allows:
         return False
-    going.back, going.at, going.allows = going.at, BELL_PLACE, False
+    going.home, going.at, going.allows = going.at, BELL_PLACE, False
     return True
 
 
@@ -215,6 +215,6 @@ def with_memory(plain, memory):
 
 def plain_behind(shape, program, going):
     """The state to which a changing one has come."""
-    made = Plain(shape, program, pc=going.at, registers=tuple(going.held), saved=going.back, allowed=going.allows,
+    made = Plain(shape, program, pc=going.at, registers=tuple(going.held), saved=going.home, allowed=going.allows,
                  ended=going.over, outputs=tuple(going.shown))
     return with_memory(made, going.store)

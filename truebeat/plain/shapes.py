@@ -62,11 +62,11 @@ def check_program(program):
         raise InvalidProgram("this is no program")
 
 
-def check_memory(shape, memory):
-    """Refuse what is no memory of the shape, or one with too many places."""
+def check_memory(width, memory):
+    """Refuse what is no memory for words of so many bits, or one with too many places."""
     if not isinstance(memory, dict) or len(memory) > MOST_PLACES:
         raise InvalidMemory("this is no memory, or it has too many places")
-    words = [is_shape_word(shape, place) and is_shape_word(shape, memory[place]) for place in memory]
+    words = [is_word_of(width, place) and is_word_of(width, memory[place]) for place in memory]
     if not all(words) or not all([memory[place] > 0 for place in memory]):
         raise InvalidMemory("a place or a word of this memory is none")
 

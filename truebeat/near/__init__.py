@@ -1,0 +1,1 @@
+"""Near lines: copies of a few blocks of a memory."""

@@ -1,0 +1,1 @@
+"""Texts of steps, assemblies with labels, and formulas."""
