@@ -4,14 +4,18 @@ import copy
 import random
 
 from truebeat import errors
+from truebeat.house.board import Board
 from truebeat.near.lines import Near
 from truebeat.plain.machine import Plain
 from truebeat.plain.shapes import Shape
+from truebeat.whole.computer import Computer
 
 PLAIN = Plain(Shape(4, 2), (0,))
 PROPERTIES = {
     Shape: ("width", "registers"), Near: ("width", "sets", "lines", "turn"),
     Plain: ("shape", "program", "pc", "registers", "memory", "saved", "allowed", "ended", "outputs", "word"),
+    Computer: ("shape", "program", "gates", "memory", "near", "state", "beats", "steps", "waits", "outputs", "history"),
+    Board: ("computer", "trail", "stops", "calls"),
 }
 DEEP = (((((((1,),),),),),),)
 ODD = (

@@ -10,15 +10,17 @@ from support import alike, check_own_kinds, error_of, random_source
 from test_net import HALF, TURNING, some_lot
 from truebeat.base import words
 from truebeat.core import counts, gates, meaning, pipe, single
-from truebeat.errors import Refused
-from truebeat.judge import alike as judge, clocked, lesser, tables, waking
+from truebeat.errors import NothingToUndo, Refused, UnknownName
+from truebeat.house import board as boards, log
+from truebeat.judge import alike as judge, broken, clocked, lesser, tables, waking
 from truebeat.near import alike as near_alike, lines, misses
 from truebeat.nets import net, walk
 from truebeat.parts import adders, long, products, shifts
 from truebeat.plain import shapes
 from truebeat.plain.machine import Plain
 from truebeat.sheets import lay, sheet
-from truebeat.text import steps
+from truebeat.text import assemble, formulas, steps
+from truebeat.whole import computer as computers
 
 LOOSE = (("and", 3, 3), ("not", 0), ("one",), ("in", "a"), ("keep", "k", None, 0))
 RING = (("not", 1), ("or", 2, 0), ("one",))
@@ -45,6 +47,11 @@ BACK = lines.Near(4, 2, NEAR.lines, ("back", 0, 0, 4))
 SWAPPED = lines.Near(4, 2, NEAR.lines[:2] + NEAR.lines[:1:-1])
 ASKS, ROW = (("read", 4), ("write", 8, 3), ("read", 11)), ((1, 0), (1, 1)) * 4
 RUN = (SHAPE, (37379, 61953, 43010, 61440), MEMORY)
+WIDE = shapes.Shape(8, 4)
+LINES = (("label", "b"), 37887, ("same", 1, 0, "a"), *[0] * 40, ("label", "a"), ("place", 1, "b"))
+FORMULA = ("two", "part", ("number", -3), ("two", "add", ("cell", 3), ("number", 4)))
+BEATS = ((1, 1, 0, 0), (2, 1, 1, 1), (3, 1, 0, 0), (4, 1, 0, 0), (5, 0, 0, 0), (5, 1, 0, 0), (5, 1, 0, 0), (5, 1, 0, 0))
+COMPUTER = computers.Computer(*RUN, lines.Near(4, 1)).run(BEATS)
 CALLS = (
     (words.is_word, 4, 3), (words.bits_of_word, 4, 6), (words.word_of_bits, (0, 1)), (words.wrapped, 4, 3),
     (words.signed, 4, 3), (words.carries, 4, 6, 3), (words.added, 4, 6, 0), (words.lessened, 4, 6, 0),
@@ -115,6 +122,18 @@ CALLS = (
     (counts.record, *RUN, ((1, 1, 0), (2, 1, 0), (3, 1, 1), (3, 0, 0)) * 3), (counts.counted, *RUN, ((1, 0, 0), (0, 0, 0), (1, 0, 3))),
     (counts.choices_for, *RUN, ((1, 0, 0), (0, 0, 0), (1, 0, 3))), (counts.fewest_beats, *RUN, 3), (counts.most_beats, *RUN, 3, 2),
     (steps.write_step, 37887), (steps.read_step, "set 1 -1"),
+    (assemble.far_lot, SHAPE, LINES), (assemble.does_fit, SHAPE, LINES, (2,)), (assemble.far_reasons, SHAPE, LINES),
+    (assemble.are_far_reasons, SHAPE, LINES, (2,)), (assemble.assemble, WIDE, LINES), (assemble.label_places, SHAPE, LINES),
+    (assemble.assemble, SHAPE, (7, ("label", "a"), ("under", 1, 0, "a"), ("place", 1, "a"))),
+    (formulas.formula_height, FORMULA), (formulas.formula_order, FORMULA), (formulas.full_tree, FORMULA),
+    (formulas.is_formula_order, FORMULA, 2, formulas.formula_order(FORMULA)), (formulas.formula_steps, WIDE, FORMULA),
+    (formulas.is_full_tree, FORMULA, 2, formulas.full_tree(FORMULA)), (formulas.formula_steps, WIDE, FORMULA[2]),
+    *((broken.broken, BOTH, index, bit) for index in range(4) for bit in (0, 1)), (broken.unrolled, BOTH, 3),
+    (broken.does_show, BOTH, 1, 0, ((1,), (0,))), (broken.break_paper, BOTH, 1, 0, 2), (broken.break_paper, BOTH, 2, 1, 1),
+    (broken.break_paper, (BOTH[0], ()), 0, 0, 2), (broken.tests, BOTH, 2), (broken.are_tests, BOTH, 2, broken.tests(BOTH, 2)),
+    (broken.is_break_paper, BOTH, 1, 0, 2, broken.break_paper(BOTH, 1, 0, 2)),
+    (computers.told_history, *RUN, (), 5), (computers.bells_of, COMPUTER), (computers.most_waits, COMPUTER),
+    (log.log_text, boards.Board(*RUN, lines.Near(4, 1))), (log.read_log, log.log_text(boards.Board(*RUN, lines.Near(4, 2)))),
 )
 
 
@@ -173,6 +192,38 @@ class ConventionsTest(unittest.TestCase):
         for ask, choice in ((ASKS[0], (1, 0)), (None, (1, 1)), (None, (1, 1))):
             near, memory, answer = lines.near_beat(near, derived(MEMORY), derived(ask), derived(choice))
             check_own_kinds(self, (near, memory, answer))
+
+    def test_own_types_in_computers_and_boards(self):
+        near = lines.Near(4, 1, derived(((True, 4, True, 1, 0), (False, 0, False, 0, 0))))
+        for gates in (False, True):
+            computer = computers.Computer(*derived(RUN), near, gates=gates, waking=derived(PIPE))
+            check_own_kinds(self, computer)
+            for choice in derived(BEATS):
+                computer = computer.beat(choice)
+                check_own_kinds(self, (computer, computer.words(), computer.meaning()))
+            check_own_kinds(self, computer.run(derived(BEATS)))
+            guided = computer.guided(derived({3: 1, 1: 3}), derived(tuple(choice[1:] for choice in BEATS)))
+            check_own_kinds(self, (guided, guided.words(), guided.meaning(), computers.bells_of(guided), computers.most_waits(guided)))
+            board = boards.Board(*derived(RUN), near, gates=gates)
+            for function, args, named in (
+                    (board.go, (BEATS[:3],), {}), (board.stop, (("word", 2, 3),), {}), (board.stop, (("field", "pc", 3),), {}),
+                    (board.back, (), {"beats": 2}), (board.unstop, (("field", "pc", 3),), {}), (board.go, (BEATS,), {"steps": 2}),
+                    (board.back, (), {}), (board.undo, (), {"calls": 1}), (board.writer, (1,), {})):
+                named = {name: derived(named[name]) for name in named}
+                check_own_kinds(self, (function(*derived(args), **named), board, board.twin(), log.log_text(board)))
+            told, many = log.read_log(Text(log.log_text(board)))
+            self.assertTrue(alike((told, many), (board, len(log.log_text(board)))))
+            check_own_kinds(self, (told, many))
+
+    def test_own_types_of_what_boards_keep_in_errors(self):
+        board = boards.Board(*RUN, lines.Near(4, 1))
+        for function, args, named, right in (
+                (board.unstop, (("place", 3),), {}, UnknownName(("place", 3))), (board.back, (), {"beats": 7}, NothingToUndo(7)),
+                (board.undo, (), {"calls": 7}, NothingToUndo(7)), (assemble.assemble, (SHAPE, (("label", "a"),)), {}, Refused(("empty",))),
+                (formulas.formula_steps, (SHAPE, FORMULA), {}, Refused(("registers", 2))),
+                (computers.told_history, (*RUN, (3,), 5), {}, Refused(("bell", 3)))):
+            error = error_of(function, *derived(args), **{name: derived(named[name]) for name in named})
+            self.assertTrue(type(error) is type(right) and alike(tuple(vars(error).values()), tuple(vars(right).values())), error)
 
     def test_own_types_of_what_errors_keep(self):
         for function, args, name, right in (

@@ -79,6 +79,19 @@ INTERFACE = {
         "choices_for(shape, program, memory, told)", "fewest_beats(shape, program, memory, steps)",
         "most_beats(shape, program, memory, steps, wait)"),
     "truebeat.text.steps": ("write_step(word)", "read_step(text)"),
+    "truebeat.text.assemble": (
+        "far_lot(shape, lines)", "does_fit(shape, lines, value)", "far_reasons(shape, lines)",
+        "are_far_reasons(shape, lines, value)", "assemble(shape, lines)", "label_places(shape, lines)"),
+    "truebeat.text.formulas": (
+        "formula_height(formula)", "formula_order(formula)", "is_formula_order(formula, most, value)", "full_tree(formula)",
+        "is_full_tree(formula, height, value)", "formula_steps(shape, formula)"),
+    "truebeat.judge.broken": (
+        "broken(net, index, bit)", "unrolled(net, beats)", "does_show(net, index, bit, row)",
+        "break_paper(net, index, bit, beats)", "is_break_paper(net, index, bit, beats, value)", "tests(net, beats)",
+        "are_tests(net, beats, value)"),
+    "truebeat.whole.computer": (
+        "told_history(shape, program, memory, bells, most)", "bells_of(computer)", "most_waits(computer)"),
+    "truebeat.house.log": ("log_text(board)", "read_log(text)"),
 }
 CLASSES = {
     "truebeat.plain.shapes": {"Shape(width, registers)": ("width", "registers")},
@@ -87,6 +100,14 @@ CLASSES = {
             "shape", "program", "pc", "registers", "memory", "saved", "allowed", "ended", "outputs", "word", "step(bell=0)",
             "run(steps, bells=())", "trace(steps, bells=())")},
     "truebeat.near.lines": {"Near(width, sets, lines=None, turn=None)": ("width", "sets", "lines", "turn")},
+    "truebeat.whole.computer": {
+        "Computer(shape, program, memory, near, *, gates=False, waking=None)": (
+            "__len__", "shape", "program", "gates", "memory", "near", "state", "beats", "steps", "waits", "outputs", "history",
+            "words()", "beat(choice)", "run(choices)", "guided(table, choices)", "meaning()")},
+    "truebeat.house.board": {
+        "Board(shape, program, memory, near, *, gates=False)": (
+            "__len__", "__contains__", "computer", "trail", "stops", "calls", "go(choices, *, steps=None)", "back(*, beats=1)",
+            "stop(stop)", "unstop(stop)", "undo(*, calls=1)", "writer(number)", "twin()")},
 }
 
 

@@ -55,7 +55,7 @@ def bounds_for(name):
     return NUMBER, NUMBER, THIRD if op < 8 else NEAR
 
 
-def word_by(name, numbers):
+def step_by(name, numbers):
     """The step word with a name and good numbers."""
     if name == "word":
         return numbers[0]
@@ -90,4 +90,4 @@ def read_step(text):
         numbers.append(number)
     if len(numbers) < len(bounds):
         raise ParseError(len(pieces))
-    return word_by(pieces[0], numbers)
+    return step_by(pieces[0], numbers)

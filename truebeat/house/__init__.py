@@ -1,0 +1,1 @@
+"""A board that runs a computer, and its log."""
