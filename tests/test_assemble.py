@@ -19,7 +19,7 @@ LINES_WRONG = [value for value in odd_but() if value not in ((0,), (0, 0, 0))] +
     *((("label", "a"), line) for line in (
         ("same", 8, 0, "a"), ("same", 0, -1, "a"), ("same", True, 0, "a"), ("same", 0, "a"), ("same", 0, 0, 0, "a"), ("under", 0, 0),
         ("place", 8, "a"), ("place", "a"), ("place", 0, 0, "a"), ("jump", 0, 0, "a"), ["same", 0, 0, "a"], ("same", 0, 0, None), (),
-        ("label",), ("label", "b", "c"), ("label", 0), (0, "a"))),
+        ("label",), ("label", "b", "c"), ("label", 0), (0, "a"), ([], "a"), ({}, "a"), (None, 0, "a"), ("x", 0, 0, "a"))),
     *((("label", name),) for name in ("", "A", "a1", "abcdefghi", "a b", "a.", None, 0, ("a",)))]
 
 
@@ -259,6 +259,7 @@ class ProgramsTest(unittest.TestCase):
         for function in (does_fit, are_far_reasons):
             check_refused(self, function, (SMALL, lines, ()), wrong)
         self.assertEqual(assemble(SMALL, (("label", "abcdefgh"), 0)), (0,))
+        self.assertEqual((assemble(SMALL, (5,)), far_lot(SMALL, (5,)), label_places(SMALL, (("label", "a"),))), ((5,), (), {"a": 0}))
         self.assertEqual(signed(6, assemble(SMALL, lines)[-1] & 63), -1)
 
 

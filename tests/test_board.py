@@ -24,7 +24,7 @@ GOOD_STOPS = (("place", 0), ("place", 15), ("put",), ("bell",), ("steps", 1), ("
 STOPS_WRONG = odd_but() + [
     ("place",), ("place", 16), ("place", -1), ("place", True), ("place", 1, 2), ["place", 1], ("put", 1), ("bell", None), ("steps", 0),
     ("steps", 3001), ("steps", True), ("steps",), ("field", "x_on"), ("field", "r2", 0), ("field", "pc", 65536), ("field", "pc", -1),
-    ("field", "pc", False), ("field", 3, 0), ("field", None, 0), ("field", "pc", 0, 0), ("word", 1), ("word", 16, 0), ("word", 0, 16),
+    ("field", "pc", False), ("field", 3, 0), ("field", None, 0), ("field", [], 0), ("field", {}, 0), ("field", "pc", 0, 0), ("word", 1), ("word", 16, 0), ("word", 0, 16),
     ("word", True, 0), ("word", 0, True), ("word", 0, 0, 0), ("look",), (None,), ("end",), "put", ("steps", 10 ** 70)]
 NUMBERS_WRONG = [value for value in odd_but() if not (type(value) is int and value > 0)] + [0, -1, 10 ** 61]
 
@@ -216,6 +216,31 @@ class BoardTest(unittest.TestCase):
         board.stop(("bell",))
         self.assertEqual(board.go(tuple((*choice[:3], 1) for choice in well)), (4, ("stop", 0)))
 
+    def test_stops_at_words(self):
+        """A word meets by the words over the memory: in a line that is on, in one that is not, in way 1 behind way 0."""
+        source = random_source(8)
+        met = held = 0
+        for turn in range(60):
+            first = some_computer(source, SHAPES[turn % len(SHAPES)])
+            top = 1 << first.shape.width
+            choices = some_choices(source, first.shape, source.randrange(30))
+            for _ in range(20):
+                computer, choice = first.run(choices), (1, 1, source.randrange(2), 0)
+                if computer.state["ended"]:
+                    break
+                words = computer.beat(choice).words()
+                place = source.choice(sorted(words) or [0]) ^ source.choice((0, 0, 0, 1))
+                value = source.choice((0, words.get(place, 0), words.get(place, 0), computer.memory.get(place, 0)))
+                board = Board(first.shape, first.program, first.memory, first.near)
+                board.go(choices)
+                board.stop(("word", place % top, value))
+                right = words.get(place % top, 0) == value
+                told = board.go((choice,))[1]
+                self.assertEqual(told, "ended" if board.computer.state["ended"] else ("stop", 0) if right else None)
+                met += right
+                held += right and value != board.computer.memory.get(place, 0)
+        self.assertTrue(met > 200 and held > 20, (met, held))
+
     def test_several_at_one_beat(self):
         program = (SET, PUT, END)
         for stops, told in (((("steps", 2), ("put",)), ("stop", 0)), ((("steps", 3), ("put",), ("place", 1)), ("stop", 1))):
@@ -265,6 +290,21 @@ class BoardTest(unittest.TestCase):
             told = board.go(trail[-beats:])
             self.assertEqual((board.computer, board.trail), (computer, trail))
             self.assertEqual(told, (beats, "ended" if ended else None))
+
+    def test_back_over_another_trail(self):
+        """A call that left the trail on which it began leads nowhere any more."""
+        board = Board(BYTE, (SET, PUT, PUT, LOOP), {}, Near(8, 1))
+        first, other = ((1, 1, 0, 0), (2, 1, 0, 0), (9, 1, 0, 0), (4, 1, 0, 0), (4, 1, 0, 0)), ((3, 1, 0, 0),) * 9
+        board.go(first)
+        board.stop(("steps", 99))
+        board.back(beats=4)
+        board.go(other)
+        board.stop(("steps", 98))
+        for beats in (1, 2, 3, 1):
+            trail = board.trail
+            self.assertEqual(board.back(beats=beats), len(trail) - beats)
+            self.assertEqual(board.trail, (first[:1] + other)[:len(trail) - beats])
+            self.assertTrue(alike(board.computer, Computer(BYTE, (SET, PUT, PUT, LOOP), {}, Near(8, 1)).run(board.trail)))
 
     def test_go_in_parts(self):
         source = random_source(3)

@@ -248,7 +248,7 @@ class PaperTest(unittest.TestCase):
                                   ("shown", ((0,),)), ("shown", (0, 0)), ("shown", None), ("never", ((0, 0),)), (*right, ()), ("never", parted),
                                   ("shown", parted), ("never", likeness), ("never", None), ("never", ()), ("shown", ((0, 0), None)), [*right]]:
             self.assertIs(is_break_paper(IDLE, 4, 1, 2, value), False, value)
-        for value in odd_but() + [("shown", ((0, 0),)), ("never", likeness[:5]), ("never", (*likeness[:5], ())), ("never", parted), likeness]:
+        for value in odd_but() + [("shown", ((0, 0),)), ("ever", likeness), (None, likeness), ("alike", likeness), ("never", likeness[:5]), ("never", (*likeness[:5], ())), ("never", parted), likeness]:
             self.assertIs(is_break_paper(IDLE, 4, 0, 2, value), False, value)
 
     def test_at_the_bounds(self):
@@ -338,6 +338,16 @@ class TestsTest(unittest.TestCase):
             if told[1]:
                 self.assertIs(are_tests(net, beats, (told[0], told[1][1:])), False)
         self.assertTrue(right > 60 and wrong > 200, (right, wrong))
+
+    def test_greater_nets(self):
+        """Nets of which many rows show many breaks: of the rows none can be left out."""
+        source = random_source(9)
+        for many, gates in ((5, 30), (5, 60), (6, 60), (8, 100), (4, 40)) * 3:
+            net = some_still(source, "abcdefgh"[:many], gates, ["o", "p", "q", "r"])
+            told = tests(net, 1)
+            self.assertIs(are_tests(net, 1, told), True)
+            for index in range(len(told[0])):
+                self.assertIs(are_tests(net, 1, (told[0][:index] + told[0][index + 1:], told[1])), False)
 
     def test_judge(self):
         rows, never = tests(IDLE, 2)

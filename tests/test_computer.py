@@ -18,7 +18,7 @@ from truebeat.errors import (
 from truebeat.near.lines import Near, is_kept_near
 from truebeat.plain.machine import Plain
 from truebeat.plain.shapes import Shape
-from truebeat.whole import computer as module
+from truebeat.whole import computer as module, running
 from truebeat.whole.computer import Computer, bells_of, most_waits, told_history
 
 SMALL, BYTE = Shape(4, 2), Shape(8, 4)
@@ -224,6 +224,18 @@ class ComputerTest(unittest.TestCase):
                 self.check_promises(computer, c, words)
             self.assertEqual(one.beat((0, 1, 0, 0)), two.beat((0, 1, 0, 0)))
 
+    def test_gates_are_worked(self):
+        """With gates each beat, that of the reset too, is one of the net, and without none is."""
+        worked = []
+        right = running.gated_beat
+        running.gated_beat = lambda *args: worked.append(args[-1]) or right(*args)
+        try:
+            for gates, told in ((False, []), (True, [1, 0, 0, 0])):
+                Computer(SMALL, (SET,), {}, Near(4, 1), gates=gates, waking=first_pipe(SMALL)).run(((1, 1, 0, 0),) * 3)
+                self.assertEqual(worked, told)
+        finally:
+            running.gated_beat = right
+
     def test_wakings(self):
         source = random_source(5)
         for turn in range(60):
@@ -307,7 +319,12 @@ class ComputerTest(unittest.TestCase):
         loop = Computer(BYTE, (SET, PUT, step_word(12, 0, 0, 63)), {}, Near(8, 1))
         self.assertEqual(loop.guided({2: 1}, ((1, 0, 0),) * 12).steps, 10)
         self.assertLess(loop.guided({}, ((1, 0, 0),) * 12).steps, 7)
-        self.assertEqual(loop.guided({place % 256: 0 for place in range(256)}, ()), loop)
+        self.assertEqual(loop.guided({place: 0 for place in range(256)}, ()), loop)
+        # Behind the last place stands the first one.
+        last = Computer(SMALL, (step_word(12, 0, 0, 63), *[SET] * 14, PUT), {}, Near(4, 1))
+        self.assertEqual(last.guided({}, ((1, 0, 0),) * 4).run(((0, 1, 0, 0),)).state["pc"], 0)
+        around = last.guided({0: 15}, ((1, 0, 0),) * 9)
+        self.assertEqual([event for event in around.history if event[0] == "step"], [("step", beat, 15 * (beat % 2 == 0)) for beat in range(3, 10)])
 
     def test_bounds(self):
         loop = Computer(BYTE, (LOOP,), {}, Near(8, 1))
@@ -320,6 +337,7 @@ class ComputerTest(unittest.TestCase):
         expect(self, TooMany, 3000, loop.guided, {}, ((1, 0, 0),) * 3001)
         expect(self, InvalidChoice, None, last.beat, (0, 1, 0, 2))
         self.assertEqual(last.run(()), last)
+        self.assertEqual(loop.run(((0, 1, 0, 0),) * 2999).beat((0, 1, 0, 0)), last)
         gated = Computer(SMALL, (LOOP,), {}, Near(4, 1), gates=True)
         last = gated.run(((0, 1, 0, 0),) * 400)
         self.assertEqual((last.beats, last.steps), (400, 398))

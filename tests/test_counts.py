@@ -139,6 +139,17 @@ class RecordTest(unittest.TestCase):
                          ((3, 0, 0, 0, 0), (4, 1, 0, 1, 0), (7, 1, 0, 1, 0)))
         self.assertEqual(record(BYTE, (SET,), {}, ()), ())
 
+    def test_what_is_stored_is_loaded(self):
+        """A branch by a word that was stored ahead, also where it takes the place of one of the memory."""
+        load, same = step_word(10, 2, 0, 2), step_word(12, 1, 2, 2)
+        for program, memory, taken in (((SET, STORE, load, same, PUT, END), {}, 1), ((SET, STORE, load, same, PUT, END), {2: 9}, 1),
+                                       ((SET, step_word(11, 0, 0, 2), load, same, PUT, END), {2: 3}, 0), ((SET, PUT, load, same, PUT, END), {2: 3}, 1)):
+            choices = tuple((place, 1, 0) for place in (1, 2, 3, 4, 5, 5)) + ((5, 1, 0),) * 9
+            marks = record(BYTE, program, memory, choices)
+            self.assertEqual(marks, record_by_words(BYTE, program, memory, choices))
+            self.assertEqual([mark[1:3] for mark in marks][3], (3, taken))
+            self.assertEqual(counted(BYTE, program, memory, tuple(mark[2:] for mark in marks)), tuple(mark[0] for mark in marks))
+
     def test_the_edge(self):
         self.assertEqual(len(record(BYTE, (LOOP,), {}, ((0, 1, 0),) * 3000)), 2998)
         self.assertEqual(len(record(BYTE, (LOOP,), {}, ((1, 1, 0),) * 3000)), 1000)

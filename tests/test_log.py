@@ -176,6 +176,7 @@ class LogTest(unittest.TestCase):
         self.assertEqual(read_log(head + f"go {row}\n")[0].computer.state["ended"], 1)
         expect(self, ParseError, 4, read_log, head + f"go {row}/6,1,0,0\n")
         expect(self, ParseError, 5, read_log, head + f"go {row}\ngo 6,1,0,0\n")
+        expect(self, ParseError, 5, read_log, head + f"go {row}\ngo {row}\n")
         expect(self, ParseError, 5, read_log, head + f"stop put\ngo {row}\n")
         self.assertEqual(read_log(head + "stop put\ngo " + row.rsplit("/", 1)[0] + "\n")[0].computer.beats, 4)
         expect(self, ParseError, 4, read_log, head + "back 1\n")

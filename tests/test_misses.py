@@ -243,6 +243,49 @@ class AlikeTest(unittest.TestCase):
             self.assertIs(is_parting(one, other, value), False, value)
         self.assertIs(is_parting(one, one, right), False)
 
+    def test_drawn_values_judged(self):
+        """Drawn asks, many of them writes, with victims enough or too few, against their beats."""
+        source = random_source(5)
+        parted = enough = 0
+        for turn in range(3000):
+            width, sets = ((4, 1), (4, 2), (5, 2))[turn % 3]
+            one, other = self.some_pair(source, width, sets)
+            value = (tuple(some_ask(source, width, sets) for _ in range(source.randrange(9))), tuple(source.randrange(2) for _ in range(source.randrange(9))))
+            runs = [run_of_asks(near, *value) for near in (one, other)]
+            right = None not in [missed for missed, _, _ in runs] and sum(runs[0][1]) != sum(runs[1][1])
+            self.assertIs(is_parting(one, other, value), right)
+            parted += right
+            enough += None not in [missed for missed, _, _ in runs]
+        self.assertTrue(500 < parted < enough - 500 < 2400, (parted, enough))
+
+    def test_costs(self):
+        """Rows in which a miss is as dear as hits and other misses: 4 and 6 beats, and the dirt that a write leaves."""
+        clean, dirty, off = (True, 0, False, 0, 0), (True, 1, True, 0, 0), (False, 0, False, 0, 0)
+        full, half = Near(4, 1, (clean, dirty)), Near(4, 1, (clean, off))
+        # Of block 2 and then 3: 6 + 4 beats where dirt goes first, 4 + 6 where it goes last.
+        for asks, victims, told in (((("read", 4), ("read", 6)), (1, 1), [6, 4]), ((("read", 4), ("read", 6)), (0, 1), [4, 6]),
+                                    ((("write", 4, 1), ("read", 6)), (0, 0), [4, 6]), ((("write", 1, 1), ("read", 6)), (0,), [1, 6]),
+                                    ((("read", 2), ("read", 6)), (1,), [1, 6]), ((("write", 2, 1), ("read", 6)), (1,), [1, 6])):
+            self.assertEqual(run_of_asks(full, asks, victims)[1], told)
+            beats = sum(told)
+            others = run_of_asks(half, asks, victims)
+            self.assertIs(is_parting(full, half, (asks, victims)), others[0] is not None and sum(others[1]) != beats)
+        # Five clean misses and three hits are as dear as five hits and three dirty misses, and not as four of these.
+        for many in (3, 4, 2):
+            ones, others = [], []
+            for number in range(8):
+                on = (True, number, False, 0, 0)
+                ones += [on, (False, *on[1:])] if number < many else [(False, *on[1:])] * 2
+                others += [(True, number + 8 * at, True, 0, 0) for at in (1, 2)] if number < many else [on, (False, *on[1:])]
+            one, other = Near(8, 8, tuple(ones)), Near(8, 8, tuple(others))
+            value = (tuple(("read", 2 * number) for number in range(many + 5)[:8]), (0,) * 8)
+            runs = [run_of_asks(near, *value) for near in (one, other)]
+            self.assertEqual(many == 3, sum(runs[0][1]) == sum(runs[1][1]))
+            self.assertIs(is_parting(one, other, value), many != 3)
+        swapped = Near(4, 1, (dirty, clean))
+        self.assertIs(is_parting(full, swapped, ((("read", 4), ("read", 6)), (1, 0))), False)
+        self.assertIs(is_parting(full, swapped, ((("read", 4), ("read", 6)), (1, 1))), True)
+
     def test_not_true(self):
         """Two near lines with the same words over one memory are not always alike in beats."""
         memory = {0: 1, 1: 2}

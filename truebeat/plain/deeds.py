@@ -40,6 +40,11 @@ def near_number(word):
     return signed(NEAR_BITS, word & 63)
 
 
+def far_number(word):
+    """The signed number of the nine lowest bits."""
+    return signed(FAR_BITS, word & 511)
+
+
 class Deed:
     """What a step does.
 
@@ -69,7 +74,7 @@ def reckoned(width, op, word, one, two):
     if op == 8:
         return one + near_number(word)
     if op == 9:
-        return signed(FAR_BITS, word & 511)
+        return far_number(word)
     return (one + two, one - two, one & two, one | two, one ^ two)[op]
 
 

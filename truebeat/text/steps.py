@@ -1,9 +1,8 @@
 """Texts of step words."""
 
 from truebeat.base.checks import is_between
-from truebeat.base.words import signed
 from truebeat.errors import ParseError
-from truebeat.plain.deeds import FAR_BITS, near_number
+from truebeat.plain.deeds import far_number, near_number
 from truebeat.plain.shapes import NO_WORD, check_step_word, fields, word_of
 from truebeat.text.pieces import number_in
 
@@ -18,11 +17,6 @@ THIRD = (0, 63)
 NEAR = (-32, 31)
 FAR = (-256, 255)
 OTHERS = (SPECIAL_OP << 12, NO_WORD)
-
-
-def far_number(word):
-    """The signed number of the nine lowest bits."""
-    return signed(FAR_BITS, word & 511)
 
 
 def pieces_of(word):

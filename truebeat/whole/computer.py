@@ -2,6 +2,7 @@
 
 from truebeat.base.checks import is_bit, is_tuple_of, plainly_made
 from truebeat.base.words import check_number
+from truebeat.core.counts import check_run_of
 from truebeat.core.fields import ascending, check_fields, pipe_widths
 from truebeat.core.gates import core_net
 from truebeat.core.meaning import meant
@@ -10,7 +11,7 @@ from truebeat.errors import InvalidChoice, InvalidLines, InvalidOperation, Refus
 from truebeat.near.lines import Near, are_kept_lines, check_near, near_of, turning_of
 from truebeat.near.turns import words_over
 from truebeat.plain.machine import MOST_STEPS, Going, Plain, check_bells, go_on
-from truebeat.plain.shapes import check_memory, check_program, check_shape, is_shape_word
+from truebeat.plain.shapes import is_shape_word
 from truebeat.whole.running import Running, copied, do_beat, do_reset
 
 MAX_BEATS = 3000
@@ -29,9 +30,7 @@ class Computer:
     """A computer behind some beats. It never changes."""
 
     def __init__(self, shape, program, memory, near, *, gates=False, waking=None):
-        check_shape(shape)
-        check_program(program)
-        check_memory(shape.width, memory)
+        check_run_of(shape, program, memory)
         check_near_for(shape, near, memory)
         if not isinstance(gates, bool):
             raise InvalidOperation("whether there are gates is a boolean")
@@ -219,9 +218,7 @@ def events_of_step(going, place, taken, many):
 
 def told_history(shape, program, memory, bells, most):
     """The events of a run of the plain machine, without beats."""
-    check_shape(shape)
-    check_program(program)
-    check_memory(shape.width, memory)
+    check_run_of(shape, program, memory)
     check_bells(bells)
     check_number(most, 0, MOST_STEPS)
     going = Going(Plain(shape, program, memory=memory))
