@@ -3,7 +3,7 @@
 from truebeat.base.checks import is_between
 from truebeat.errors import ParseError
 from truebeat.plain.deeds import far_number, near_number
-from truebeat.plain.shapes import NO_WORD, check_step_word, fields, word_of
+from truebeat.plain.shapes import check_step_word, fields, word_of
 from truebeat.text.pieces import number_in
 
 NAMES = (
@@ -16,7 +16,7 @@ NUMBER = (0, 7)
 THIRD = (0, 63)
 NEAR = (-32, 31)
 FAR = (-256, 255)
-OTHERS = (SPECIAL_OP << 12, NO_WORD)
+OTHERS = (61440, 65535)
 
 
 def pieces_of(word):
